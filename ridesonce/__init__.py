@@ -1,0 +1,1 @@
+"""Ridesonce: single rides between bike stations, in every order and in some order."""

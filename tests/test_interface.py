@@ -1,0 +1,128 @@
+"""Names, places, arguments and examples of the interface, for the modules that exist."""
+
+import importlib
+import inspect
+import unittest
+
+from helper import brim, dry, error_of, rows
+from ridesonce.ends import ends
+from ridesonce.every import every
+from ridesonce.lots import dead_lots
+from ridesonce.notation import read_town, write_town
+from ridesonce.rings import bad_rings
+from ridesonce.rules import Rule
+from ridesonce.runner import Runner
+from ridesonce.some import some, wise_rides
+from ridesonce.steps import able, go, is_stuck, run
+from ridesonce.sure import sure_riders, why
+from ridesonce.towns import Town
+
+FUNCTIONS = {
+    "notation": {"write_town": "(town)", "read_town": "(text)"},
+    "steps": {"able": "(town)", "go": "(town, name)", "run": "(town, order)", "is_stopped": "(town)",
+              "is_stuck": "(town)"},
+    "ends": {"ends": "(town)", "first_unfair": "(town)", "empties": "(town)", "fulls": "(town)"},
+    "lots": {"lots": "(town)", "dead_lots": "(town)"},
+    "rings": {"bad_rings": "(town)"},
+    "every": {"every": "(town)", "judge_every": "(town, verdict)"},
+    "sure": {"sure_riders": "(town)", "why": "(town, name)"},
+    "some": {"some": "(town)", "wise_rides": "(town)"},
+}
+METHODS = {
+    ("towns", "Town"): {
+        "__init__": "(self, stations, rides)", "docks": "(self, station)", "bikes": "(self, station)",
+        "free": "(self, station)", "ride": "(self, name)", "position": "(self, name)", "passes": "(self)",
+        "only": "(self, names)", "without": "(self, names)",
+        "with_ride": "(self, name, start, goal, *, kept=True)", "with_bikes": "(self, station, bikes)",
+    },
+    ("rules", "Rule"): {"choices": "(self, town)", "rank": "(self, town, name)", "pick": "(self, town)",
+                        "__call__": "(self, town)"},
+    ("rules", "LastBooked"): {"rank": "(self, town, name)"},
+    ("rules", "FullestStart"): {"rank": "(self, town, name)"},
+    ("rules", "EmptiestGoal"): {"rank": "(self, town, name)"},
+    ("rules", "KeptFirst"): {"rank": "(self, town, name)"},
+    ("runner", "Runner"): {"__init__": "(self, town)", "go": "(self, name)", "back": "(self)",
+                           "follow": "(self, rule)", "__len__": "(self)", "__iter__": "(self)"},
+}
+
+
+def module_of(word):
+    return importlib.import_module(f"ridesonce.{word}")
+
+
+class NamesTest(unittest.TestCase):
+    def test_functions(self):
+        for word, names in FUNCTIONS.items():
+            for name, arguments in names.items():
+                with self.subTest(name):
+                    function = getattr(module_of(word), name)
+                    self.assertTrue(inspect.isfunction(function))
+                    self.assertEqual(function.__module__, f"ridesonce.{word}")
+                    self.assertEqual(str(inspect.signature(function)), arguments)
+
+    def test_methods_stand_in_the_class_itself(self):
+        for (word, name), methods in METHODS.items():
+            owner = getattr(module_of(word), name)
+            self.assertEqual(owner.__module__, f"ridesonce.{word}")
+            for method, arguments in methods.items():
+                with self.subTest(f"{name}.{method}"):
+                    self.assertTrue(inspect.isfunction(vars(owner)[method]))
+                    self.assertEqual(str(inspect.signature(vars(owner)[method])), arguments)
+
+    def test_class_method_and_properties(self):
+        self.assertIsInstance(vars(Town)["empty"], classmethod)
+        for name in ("town", "order", "left"):
+            self.assertIsInstance(vars(Runner)[name], property)
+
+    def test_generator(self):
+        self.assertTrue(inspect.isgeneratorfunction(bad_rings))
+
+    def test_attributes_of_a_town(self):
+        for town in (dry(), Town.empty()):
+            for row in (town.stations, town.rides, *town.stations, *town.rides):
+                self.assertIs(type(row), tuple)
+
+    def test_kinds_of_values(self):
+        for value in (able(dry()), sure_riders(dry()), wise_rides(dry()), dead_lots(dry()), Rule().choices(dry())):
+            self.assertIs(type(value), list)
+        for value in (every(dry()), every(brim()), some(dry()), why(dry(), "r1"), why(dry(), "r3")):
+            self.assertIs(type(value), tuple)
+        self.assertIs(type(ends(dry())), dict)
+        for part in every(dry().without(["r4"])) [1:]:
+            self.assertIs(type(part), dict)
+
+
+class ExamplesTest(unittest.TestCase):
+    def test_towns(self):
+        self.assertEqual(dry().ride("r3"), ("r3", "c", "a", True))
+        self.assertEqual(dry().with_ride("r5", "a", "street").rides[4], ("r5", "a", "street", True))
+        self.assertEqual(error_of(dry().with_ride, "r5", "a", "street", kept=False), ("NotKept", "r5"))
+
+    def test_notation(self):
+        town = Town([("a", 2, 0)], [("r1", "a", "street", True)])
+        self.assertEqual(write_town(town), "station a 2 0\nride r1 a street\n")
+        self.assertEqual(rows(read_town(write_town(town))), rows(town))
+        self.assertEqual(error_of(read_town, "station a 2 0\nride r1 a b\nstation b 2 0\n"), ("BadLine", 2))
+
+    def test_steps(self):
+        self.assertEqual(able(dry()), ["r3"])
+        self.assertTrue(is_stuck(run(dry(), ["r3", "r4"])))
+
+    def test_ends_and_lots(self):
+        self.assertEqual(ends(dry()), {"a": 0, "b": 0, "c": 1})
+        self.assertEqual(dead_lots(run(dry(), ["r3", "r4"])), [("empty", ["r1", "r2"])])
+
+    def test_rings_and_every(self):
+        self.assertEqual(list(bad_rings(brim())), [("full", ["r1", "r2"])])
+        self.assertEqual(every(brim()), ("no", "full", ["r1", "r2"], ["r3", "r4"]))
+        self.assertEqual(every(dry().without(["r4"])), ("yes", {"b": 0, "c": 0}, {}))
+
+    def test_sure_and_some(self):
+        self.assertEqual(sure_riders(dry()), ["r3", "r4"])
+        self.assertEqual(why(brim(), "r3"), ("sure", [], []))
+        self.assertEqual(some(dry()), ("yes", ["r3", "r1", "r2", "r4"]))
+        self.assertEqual(wise_rides(go(dry(), "r3")), ["r1"])
+
+
+if __name__ == "__main__":
+    unittest.main()

@@ -1,0 +1,123 @@
+"""12 stations and 24 rides, many docks and bikes: everything but bad_rings answers quickly ([7])."""
+
+import time
+import unittest
+
+from helper import SECONDS, error_of, inside, is_fair, is_ring, large_town, left_after, names_of, rows
+from ridesonce.ends import ends
+from ridesonce.every import every, judge_every
+from ridesonce.lots import dead_lots, lots
+from ridesonce.notation import read_town, write_town
+from ridesonce.rings import bad_rings
+from ridesonce.rules import EmptiestGoal, FullestStart, KeptFirst, LastBooked, Rule
+from ridesonce.runner import Runner
+from ridesonce.some import some, wise_rides
+from ridesonce.steps import able, is_stopped, run
+from ridesonce.sure import sure_riders, why
+from ridesonce.towns import Town
+
+
+def two_stations():
+    """24 unkept rides to and fro, with a single bike."""
+    rides = [(f"r{at}", "a" if at % 2 else "b", "b" if at % 2 else "a", False) for at in range(24)]
+    return Town([("a", 999999, 1), ("b", 999999, 0)], rides)
+
+
+def full_tangle(kept):
+    """12 stations that are full in the end, each with a ride to the two behind it."""
+    stations = [(f"s{at}", 999999, 999999) for at in range(12)]
+    rides = [(f"r{at}", f"s{at % 12}", f"s{(at + 1 + at // 12) % 12}", kept) for at in range(24)]
+    return Town(stations, rides)
+
+
+def long_rows():
+    """Twelve stations in a row that are empty in the end; each rider goes one or two further."""
+    rides = [(f"r{at}", f"s{at}", f"s{at + 1}", at % 2 == 0) for at in range(11)]
+    rides += [(f"q{at}", f"s{at}", f"s{at + 2}", True) for at in range(10)]
+    rides += [(f"p{at}", "s11", "street", True) for at in range(2)] + [("o", "s10", "street", True)]
+    net = {f"s{at}": 0 for at in range(12)}
+    for _, start, goal, _ in rides:
+        net[start] -= 1
+        net[goal] = net.get(goal, 0) + 1
+    return Town([(f"s{at}", 999999, max(0, -net[f"s{at}"])) for at in range(12)], rides)
+
+
+class LargeTest(unittest.TestCase):
+    def setUp(self):
+        self.towns = [large_town(), two_stations(), full_tangle(True), full_tangle(False), long_rows()]
+        self.start = time.perf_counter()
+
+    def tearDown(self):
+        self.assertLess(time.perf_counter() - self.start, SECONDS)
+
+    def test_samples(self):
+        for town in self.towns:
+            self.assertEqual(len(town.rides), 24)
+            self.assertTrue(is_fair(town))
+            self.assertGreater(town.passes(), 8)
+        self.assertEqual(len(large_town().stations), 12)
+
+    def test_small_questions(self):
+        for town in self.towns:
+            self.assertEqual(rows(read_town(write_town(town))), rows(town))
+            self.assertEqual(len(ends(town)), len(town.stations))
+            self.assertEqual(sorted(name for lot in lots(town) for name in lot), sorted(names_of(town)))
+
+    def test_bad_rings_alone_raises_too_large(self):
+        for town in self.towns:
+            self.assertEqual(error_of(list, bad_rings(town)), ("TooLarge", town.passes()))
+
+    def test_every(self):
+        words = []
+        for town in self.towns:
+            told = every(town)
+            words.append(told[0])
+            self.assertTrue(judge_every(town, told))
+            if told[0] == "no":
+                self.assertTrue(is_ring(town, told[1], told[2]))
+                self.assertTrue(set(told[2]) <= set(left_after(town, told[3])))
+        self.assertEqual(words, ["no", "yes", "no", "yes", "yes"])
+
+    def test_length_of_long_rows(self):
+        self.assertEqual(every(long_rows())[1]["s11"], 11)
+
+    def test_some(self):
+        words = []
+        for town in self.towns:
+            told = some(town)
+            words.append(told[0])
+            if told[0] == "yes":
+                self.assertEqual(left_after(town, told[1]), [])
+            else:
+                self.assertEqual(told[1:], dead_lots(town)[0])
+        self.assertEqual(words, ["yes", "yes", "no", "yes", "yes"])
+
+    def test_wise_rides(self):
+        for town in self.towns:
+            for name in wise_rides(town):
+                self.assertEqual(some(run(town, [name]))[0], "yes")
+
+    def test_sure(self):
+        for town in self.towns:
+            surely = sure_riders(town)
+            for name in names_of(town):
+                told = why(town, name)
+                self.assertEqual(told[0] == "sure", name in surely)
+                if told[0] == "unsure":
+                    self.assertTrue(is_ring(town, told[1], told[2]))
+                    self.assertTrue(set(told[2]) <= set(left_after(town, told[3])))
+        self.assertEqual(len(inside(large_town(), "empty") + inside(large_town(), "full")), 12)
+        self.assertEqual(len(sure_riders(large_town())), 12)
+
+    def test_rules_and_runner(self):
+        for town in self.towns:
+            for rule in (Rule(), LastBooked(), FullestStart(), EmptiestGoal(), KeptFirst()):
+                runner = Runner(town)
+                self.assertEqual(runner.follow(rule), len(runner))
+                self.assertTrue(is_stopped(runner.town))
+                self.assertEqual(runner.order, rule(town)[0])
+                self.assertEqual(able(runner.town), [])
+
+
+if __name__ == "__main__":
+    unittest.main()

@@ -1,0 +1,126 @@
+"""Arguments stay as they are, and changing an answer changes nothing else ([2])."""
+
+import copy
+import unittest
+
+from helper import BRIM_RIDES, BRIM_STATIONS, DRY_RIDES, DRY_STATIONS, brim, dry, fair_towns, random_towns, rows
+from ridesonce.ends import empties, ends, fulls
+from ridesonce.every import every, judge_every
+from ridesonce.lots import dead_lots, lots
+from ridesonce.rings import bad_rings
+from ridesonce.rules import KeptFirst, Rule
+from ridesonce.runner import Runner
+from ridesonce.some import some, wise_rides
+from ridesonce.steps import able, go, run
+from ridesonce.sure import sure_riders, why
+from ridesonce.towns import Town
+
+
+def parts(value):
+    """All lists and dicts in an answer, however deep."""
+    found = [value] if isinstance(value, (list, dict)) else []
+    if isinstance(value, (list, tuple)):
+        found += [part for one in value for part in parts(one)]
+    if isinstance(value, dict):
+        found += [part for one in value.values() for part in parts(one)]
+    return found
+
+
+def spoil(value):
+    """Change every list and dict of an answer."""
+    for part in parts(value):
+        if isinstance(part, list):
+            part.append("spoiled")
+            part.reverse()
+        else:
+            part["spoiled"] = 1
+
+
+ANSWERS = [able, ends, empties, fulls, lots, dead_lots, Rule().choices, KeptFirst().choices]
+FAIR_ANSWERS = [every, some, sure_riders, wise_rides, lambda town: list(bad_rings(town)),
+                lambda town: [why(town, ride[0]) for ride in town.rides]]
+
+
+class AnswersTest(unittest.TestCase):
+    def check(self, answer, town):
+        before = rows(town)
+        first = answer(town)
+        kept = copy.deepcopy(first)
+        second = answer(town)
+        both = parts(first) + parts(second)
+        self.assertEqual(len({id(part) for part in both}), len(both))
+        spoil(first)
+        self.assertEqual(second, kept)
+        self.assertEqual(answer(town), kept)
+        self.assertEqual(rows(town), before)
+
+    def test_changing_an_answer(self):
+        for town in random_towns(60, 61) + [dry(), brim(), Town.empty()]:
+            for answer in ANSWERS:
+                self.check(answer, town)
+
+    def test_changing_an_answer_about_a_fair_town(self):
+        for town in fair_towns(150, 62) + [dry(), brim(), Town.empty(), dry().without(["r4"])]:
+            for answer in FAIR_ANSWERS:
+                self.check(answer, town)
+
+    def test_changing_what_a_rule_tells(self):
+        order, town = Rule()(dry())
+        before = rows(town)
+        order.clear()
+        self.assertEqual(rows(town), before)
+        self.assertEqual(Rule()(dry())[0], ["r3", "r1", "r2", "r4"])
+
+
+class ArgumentsTest(unittest.TestCase):
+    def test_lists_that_a_town_was_made_from(self):
+        stations, rides = list(DRY_STATIONS), list(DRY_RIDES)
+        town = Town(stations, rides)
+        self.assertEqual((stations, rides), (DRY_STATIONS, DRY_RIDES))
+        stations[0] = ("a", 9, 9)
+        stations.pop()
+        rides.clear()
+        self.assertEqual(rows(town), rows(dry()))
+        self.assertEqual([town.docks("a"), town.bikes("a"), town.bikes("c")], [2, 0, 1])
+        self.assertEqual(ends(town), {"a": 0, "b": 0, "c": 1})
+        self.assertEqual(town.ride("r4"), ("r4", "a", "c", True))
+
+    def test_a_town_that_could_not_be_made(self):
+        stations, rides = list(BRIM_STATIONS), BRIM_RIDES + [("r1", "a", "b", True)]
+        self.assertRaises(ValueError, Town, stations, rides)
+        self.assertEqual((stations, rides), (BRIM_STATIONS, BRIM_RIDES + [("r1", "a", "b", True)]))
+
+    def test_lists_of_names(self):
+        names = ["r2", "r1", "r2"]
+        towns = [dry().only(names), dry().without(names)]
+        self.assertEqual(names, ["r2", "r1", "r2"])
+        before = [rows(town) for town in towns]
+        names.clear()
+        self.assertEqual([rows(town) for town in towns], before)
+
+    def test_orders(self):
+        order = ["r3", "r1"]
+        town = run(dry(), order)
+        self.assertEqual(order, ["r3", "r1"])
+        order.clear()
+        self.assertEqual(rows(town), rows(go(go(dry(), "r3"), "r1")))
+
+    def test_verdicts(self):
+        for town in fair_towns(200, 63):
+            verdict = every(town)
+            before = copy.deepcopy(verdict)
+            judge_every(town, verdict)
+            self.assertEqual(verdict, before)
+
+    def test_towns_of_a_runner(self):
+        town = dry()
+        runner = Runner(town)
+        runner.follow(Rule())
+        spoil([runner.order, runner.left, list(runner)])
+        self.assertEqual(runner.order, ["r3", "r1", "r2", "r4"])
+        self.assertEqual(len(list(runner)), 5)
+        self.assertEqual(rows(town), rows(dry()))
+
+
+if __name__ == "__main__":
+    unittest.main()
