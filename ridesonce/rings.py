@@ -13,6 +13,17 @@ def rides_inside(town, kind):
     return rides if kind == "empty" else [ride for ride in rides if ride[3]]
 
 
+def rides_of_both_kinds(town):
+    """The rides that can be left: all that stand inside one kind or the other, in town order."""
+    found = [ride for kind in KINDS for ride in rides_inside(town, kind)]
+    return [ride for ride in town.rides if ride in found]
+
+
+def is_balanced(rides):
+    """Whether at each place as many of the rides end as start."""
+    return sorted([ride[1] for ride in rides]) == sorted([ride[2] for ride in rides])
+
+
 def is_bad_ring(town, kind, names):
     """Whether the names are a bad ring of the kind, beginning at any of its rides."""
     if kind not in KINDS:

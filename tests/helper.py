@@ -165,6 +165,37 @@ def left_lists(town):
     return sorted({tuple(ride[0] for ride in state[1]) for state in final_states(town)})
 
 
+def lists_out_of(names):
+    """All lists out of the names: fewer names first, then by positions."""
+    return [list(row) for many in range(len(names) + 1) for row in itertools.combinations(names, many)]
+
+
+def places_of(town, names):
+    """The positions of the names, by which lists are compared."""
+    return [names_of(town).index(name) for name in names]
+
+
+def in_family_order(town, rows):
+    return sorted(rows, key=lambda row: (len(row), places_of(town, row)))
+
+
+def standing_of(town, state):
+    """Who is done and who is on the road in a state that the town came to."""
+    now = {ride[0]: ride for ride in state[1]}
+    done = [name for name in names_of(town) if name not in now]
+    return done, [ride[0] for ride in town.rides if now.get(ride[0], ride) != ride]
+
+
+def steps_of(town, done, road):
+    return sum(1 if town.ride(name)[3] else 2 for name in done) + len(road)
+
+
+def reached_standings(town):
+    """All standings of the town with an order that leads to each, in the order of the document."""
+    found = [(*standing_of(town, state), order) for state, order in reached_states(town).items()]
+    return sorted(found, key=lambda row: (steps_of(town, *row[:2]), places_of(town, row[0]), places_of(town, row[1])))
+
+
 def has_complete(town):
     return () in left_lists(town)
 

@@ -5,17 +5,23 @@ import inspect
 import unittest
 
 from helper import brim, dry, error_of, rows
+from ridesonce.chances import chance, mean_left, order_counts
+from ridesonce.eitherway import either
 from ridesonce.ends import ends
 from ridesonce.every import every
+from ridesonce.leftover import LeftFamily
 from ridesonce.lots import dead_lots
 from ridesonce.notation import read_town, write_town
 from ridesonce.rings import bad_rings
 from ridesonce.rules import Rule
 from ridesonce.runner import Runner
+from ridesonce.senders import Wise
 from ridesonce.some import some, wise_rides
+from ridesonce.standings import before_pairs, can_stand, standings
 from ridesonce.steps import able, go, is_stuck, run
 from ridesonce.sure import sure_riders, why
 from ridesonce.towns import Town
+from ridesonce.worst import worst
 
 FUNCTIONS = {
     "notation": {"write_town": "(town)", "read_town": "(text)"},
@@ -27,6 +33,11 @@ FUNCTIONS = {
     "every": {"every": "(town)", "judge_every": "(town, verdict)"},
     "sure": {"sure_riders": "(town)", "why": "(town, name)"},
     "some": {"some": "(town)", "wise_rides": "(town)"},
+    "standings": {"can_stand": "(town, done, road)", "standings": "(town)", "count_standings": "(town)",
+                  "before_pairs": "(town)"},
+    "eitherway": {"turn": "(town, names)", "either": "(town, names)"},
+    "worst": {"worst": "(town)", "judge_worst": "(town, answer)"},
+    "chances": {"order_counts": "(town)", "chance": "(town)", "mean_left": "(town)"},
 }
 METHODS = {
     ("towns", "Town"): {
@@ -43,6 +54,10 @@ METHODS = {
     ("rules", "KeptFirst"): {"rank": "(self, town, name)"},
     ("runner", "Runner"): {"__init__": "(self, town)", "go": "(self, name)", "back": "(self)",
                            "follow": "(self, rule)", "__len__": "(self)", "__iter__": "(self)"},
+    ("senders", "Wise"): {"__init__": "(self, rule)", "choices": "(self, town)", "rank": "(self, town, name)"},
+    ("leftover", "LeftFamily"): {"__init__": "(self, town)", "__len__": "(self)", "__getitem__": "(self, at)",
+                                 "__iter__": "(self)", "__contains__": "(self, names)", "rank": "(self, names)",
+                                 "holding": "(self, name)"},
 }
 
 
@@ -74,8 +89,12 @@ class NamesTest(unittest.TestCase):
         for name in ("town", "order", "left"):
             self.assertIsInstance(vars(Runner)[name], property)
 
-    def test_generator(self):
-        self.assertTrue(inspect.isgeneratorfunction(bad_rings))
+    def test_generators(self):
+        for generator in (bad_rings, standings):
+            self.assertTrue(inspect.isgeneratorfunction(generator))
+
+    def test_bases(self):
+        self.assertEqual(Wise.__bases__, (Rule,))
 
     def test_attributes_of_a_town(self):
         for town in (dry(), Town.empty()):
@@ -83,7 +102,8 @@ class NamesTest(unittest.TestCase):
                 self.assertIs(type(row), tuple)
 
     def test_kinds_of_values(self):
-        for value in (able(dry()), sure_riders(dry()), wise_rides(dry()), dead_lots(dry()), Rule().choices(dry())):
+        for value in (able(dry()), sure_riders(dry()), wise_rides(dry()), dead_lots(dry()), Rule().choices(dry()),
+                      before_pairs(dry()), order_counts(dry()), Wise(Rule()).choices(dry())):
             self.assertIs(type(value), list)
         for value in (every(dry()), every(brim()), some(dry()), why(dry(), "r1"), why(dry(), "r3")):
             self.assertIs(type(value), tuple)
@@ -122,6 +142,24 @@ class ExamplesTest(unittest.TestCase):
         self.assertEqual(why(brim(), "r3"), ("sure", [], []))
         self.assertEqual(some(dry()), ("yes", ["r3", "r1", "r2", "r4"]))
         self.assertEqual(wise_rides(go(dry(), "r3")), ["r1"])
+
+    def test_standings(self):
+        self.assertEqual(can_stand(dry(), ["r1", "r2"], []), ("no", "empty", ["r1", "r2"]))
+        self.assertEqual(can_stand(dry(), ["r4"], []), ("no", "docks", "a", -1))
+        expected = [("r1", "r2"), ("r1", "r4"), ("r2", "r4"), ("r3", "r1"), ("r3", "r2"), ("r3", "r4")]
+        self.assertEqual(before_pairs(dry()), expected)
+
+    def test_either(self):
+        town = Town([("a", 2, 1), ("b", 1, 1)], [("r1", "a", "b", True)])
+        self.assertEqual(either(town, ["r1"]), ("yes", ["r1"], ["r1"]))
+        town = Town([("a", 1, 1), ("b", 1, 1)], [("r1", "a", "b", True)])
+        self.assertEqual(either(town, ["r1"]), ("no", "inside", ["a", "b"]))
+
+    def test_leftover_worst_and_chances(self):
+        self.assertEqual(list(LeftFamily(dry())), [(), ("r1", "r2")])
+        self.assertEqual(worst(dry()), (2, ["r1", "r2"], {"a": 0, "b": 0}))
+        self.assertEqual(order_counts(dry()), [((), 1), (("r1", "r2"), 1)])
+        self.assertEqual((chance(dry()), mean_left(dry())), ((1, 2), (1, 1)))
 
 
 if __name__ == "__main__":

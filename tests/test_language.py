@@ -17,7 +17,9 @@ BUILTIN_METHODS = set("""append clear copy count endswith extend find get index 
 isspace isupper items join keys ljust lower lstrip partition pop remove replace reverse rfind rjust rpartition rsplit
 rstrip setdefault split splitlines startswith strip update upper values zfill bit_length add discard""".split())
 ALL_METHODS = {name for kind in (str, list, dict, set, bytes, int, tuple) for name in dir(kind)}
-DOUBLE = set("__init__ __eq__ __repr__ __str__ __len__ __enter__ __exit__ __call__ __iter__".split())
+DOUBLE = set("""__init__ __eq__ __repr__ __str__ __len__ __enter__ __exit__ __call__ __iter__ __getitem__
+__contains__""".split())
+LIBRARY = {"math": {"gcd"}}
 BARRED = re.compile(r"\b(type|typing|typing_extensions|enum|Enum|Generic|Protocol|ABC|namedtuple|NamedTuple|TypedDict|"
                     r"abstractmethod)\b|dataclass|overload|contextmanager|_wall|_WallAttr")
 NOT_USED = set("""register mro elements open input law version_info with_traceback add_note attrgetter breakpoint builtins
@@ -36,6 +38,11 @@ def bound_names(tree):
     found = [node.name for node in nodes(tree, ast.FunctionDef, ast.ClassDef)]
     found += [node.arg for node in nodes(tree, ast.arg)]
     return found + [node.id for node in nodes(tree, ast.Name) if isinstance(node.ctx, ast.Store)]
+
+
+def own_imports(tree):
+    """The imports from the package itself."""
+    return [node for node in nodes(tree, ast.ImportFrom) if node.module not in LIBRARY]
 
 
 def imports_of(tree):
@@ -80,7 +87,7 @@ class LanguageTest(unittest.TestCase):
 
     def test_imports(self):
         for _, _, tree in self.each():
-            for node in nodes(tree, ast.ImportFrom):
+            for node in own_imports(tree):
                 self.assertTrue(node.module.startswith("ridesonce."))
                 source = self.trees[node.module.split(".")[1] + ".py"]
                 own = bound_names(ast.Module([one for one in source.body if not isinstance(one, ast.ImportFrom)], []))
@@ -89,13 +96,22 @@ class LanguageTest(unittest.TestCase):
                     self.assertIn(alias.name, own)
             self.assertEqual(len(imports_of(tree)), len(set(imports_of(tree))))
 
+    def test_the_library_is_only_called(self):
+        for _, _, tree in self.each():
+            for node in nodes(tree, ast.ImportFrom):
+                if node.module in LIBRARY:
+                    names = {alias.name for alias in node.names}
+                    self.assertLessEqual(names, LIBRARY[node.module])
+                    called = [one.func for one in nodes(tree, ast.Call) if not one.keywords]
+                    self.assertFalse([one for one in nodes(tree, ast.Name) if one.id in names and one not in called])
+
     def test_each_import_is_used(self):
         for _, _, tree in self.each():
             used = {node.id for node in nodes(tree, ast.Name)}
             self.assertEqual(set(imports_of(tree)) - used, set())
 
     def test_no_two_files_import_each_other(self):
-        needs = {name: {node.module.split(".")[1] + ".py" for node in nodes(tree, ast.ImportFrom)}
+        needs = {name: {node.module.split(".")[1] + ".py" for node in own_imports(tree)}
                  for name, tree in self.trees.items()}
         while needs:
             free = [name for name in needs if not needs[name] & set(needs)]
@@ -154,9 +170,27 @@ class LanguageTest(unittest.TestCase):
     def test_generators_are_called_on_the_spot_alone(self):
         generators = {node.name for tree in self.trees.values() for node in nodes(tree, ast.FunctionDef)
                       if nodes(node, ast.Yield, ast.YieldFrom)}
-        self.assertEqual(generators, {"bad_rings"})
+        self.assertEqual(generators, {"bad_rings", "standings"})
         for _, _, tree in self.each():
             self.assertFalse([node for node in nodes(tree, ast.Name) if node.id in generators])
+
+    def test_operators(self):
+        owners = [owner for tree in self.trees.values() for owner in nodes(tree, ast.ClassDef)]
+        for owner in owners:
+            methods = {node.name: node for node in owner.body if isinstance(node, ast.FunctionDef)}
+            if "__getitem__" in methods:
+                self.assertIn("__iter__", methods)
+            for name in ("__len__", "__iter__"):
+                if name in methods:
+                    self.assertIsInstance(methods[name].body[-1], ast.Return)
+                    self.assertEqual(len(methods[name].body), 1)
+            for name in ("__getitem__", "__contains__", "__len__"):
+                changed = [node for node in nodes(methods.get(name, ast.Pass()), ast.Attribute, ast.Subscript)
+                           if isinstance(node.ctx, ast.Store)]
+                self.assertFalse(changed)
+            self.assertNotIn("keys", methods)
+        for _, text, _ in self.each():
+            self.assertIsNone(re.search(r"\(type\)|Meta|metaclass=", text))
 
     def test_decorators_and_bases(self):
         for _, _, tree in self.each():

@@ -1,20 +1,27 @@
-"""12 stations and 24 rides, many docks and bikes: everything but bad_rings answers quickly ([7])."""
+"""12 stations and 24 rides, many docks and bikes: all that needs no small town answers quickly ([7])."""
 
 import time
 import unittest
 
-from helper import SECONDS, error_of, inside, is_fair, is_ring, large_town, left_after, names_of, rows
+from helper import (SECONDS, error_of, inside, is_fair, is_ring, large_town, left_after, names_of, rows, standing_of,
+                    state_after)
+from ridesonce.chances import chance, mean_left, order_counts
+from ridesonce.eitherway import either, turn
 from ridesonce.ends import ends
 from ridesonce.every import every, judge_every
+from ridesonce.leftover import LeftFamily
 from ridesonce.lots import dead_lots, lots
 from ridesonce.notation import read_town, write_town
 from ridesonce.rings import bad_rings
 from ridesonce.rules import EmptiestGoal, FullestStart, KeptFirst, LastBooked, Rule
 from ridesonce.runner import Runner
+from ridesonce.senders import Wise
 from ridesonce.some import some, wise_rides
+from ridesonce.standings import before_pairs, can_stand, count_standings, standings
 from ridesonce.steps import able, is_stopped, run
 from ridesonce.sure import sure_riders, why
 from ridesonce.towns import Town
+from ridesonce.worst import judge_worst, worst
 
 
 def two_stations():
@@ -63,9 +70,12 @@ class LargeTest(unittest.TestCase):
             self.assertEqual(len(ends(town)), len(town.stations))
             self.assertEqual(sorted(name for lot in lots(town) for name in lot), sorted(names_of(town)))
 
-    def test_bad_rings_alone_raises_too_large(self):
+    def test_what_needs_a_small_town_raises_too_large(self):
         for town in self.towns:
-            self.assertEqual(error_of(list, bad_rings(town)), ("TooLarge", town.passes()))
+            for call in (count_standings, LeftFamily, before_pairs, order_counts, chance, mean_left):
+                self.assertEqual(error_of(call, town), ("TooLarge", town.passes()))
+            for made in (bad_rings(town), standings(town)):
+                self.assertEqual(error_of(list, made), ("TooLarge", town.passes()))
 
     def test_every(self):
         words = []
@@ -117,6 +127,37 @@ class LargeTest(unittest.TestCase):
                 self.assertTrue(is_stopped(runner.town))
                 self.assertEqual(runner.order, rule(town)[0])
                 self.assertEqual(able(runner.town), [])
+
+    def test_wise_senders(self):
+        for town in self.towns:
+            order, last = Wise(KeptFirst())(town)
+            self.assertEqual(last.rides == (), dead_lots(town) == [])
+            self.assertEqual(order == [], dead_lots(town) != [])
+
+    def test_can_stand(self):
+        words = []
+        for town in self.towns:
+            order = some(town)[1] if some(town)[0] == "yes" else []
+            done, road = standing_of(town, state_after(town, order[:len(order) // 2]))
+            told = can_stand(town, done, road)
+            self.assertEqual(told[0], "yes")
+            self.assertEqual(standing_of(town, state_after(town, told[1])), (done, road))
+            words.append(can_stand(town, names_of(town), [])[0])
+        self.assertEqual(words, ["yes", "yes", "no", "yes", "yes"])
+
+    def test_either(self):
+        for town in self.towns:
+            told = either(town, names_of(town))
+            self.assertEqual(told[0] == "no", dead_lots(town) != [])
+            if told[0] == "yes":
+                self.assertEqual(left_after(turn(town, told[1]), told[2]), [])
+
+    def test_worst(self):
+        numbers = []
+        for town in self.towns:
+            self.assertTrue(judge_worst(town, worst(town)))
+            numbers.append(worst(town)[0])
+        self.assertEqual(numbers, [12, 0, 24, 0, 0])
 
 
 if __name__ == "__main__":

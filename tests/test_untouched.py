@@ -3,17 +3,24 @@
 import copy
 import unittest
 
-from helper import BRIM_RIDES, BRIM_STATIONS, DRY_RIDES, DRY_STATIONS, brim, dry, fair_towns, random_towns, rows
+from helper import (BRIM_RIDES, BRIM_STATIONS, DRY_RIDES, DRY_STATIONS, brim, dry, error_of, fair_towns, names_of,
+                    random_towns, rows)
+from ridesonce.chances import chance, mean_left, order_counts
+from ridesonce.eitherway import either, turn
 from ridesonce.ends import empties, ends, fulls
 from ridesonce.every import every, judge_every
+from ridesonce.leftover import LeftFamily
 from ridesonce.lots import dead_lots, lots
 from ridesonce.rings import bad_rings
 from ridesonce.rules import KeptFirst, Rule
 from ridesonce.runner import Runner
+from ridesonce.senders import Wise
 from ridesonce.some import some, wise_rides
+from ridesonce.standings import before_pairs, can_stand, count_standings, standings
 from ridesonce.steps import able, go, run
 from ridesonce.sure import sure_riders, why
 from ridesonce.towns import Town
+from ridesonce.worst import judge_worst, worst
 
 
 def parts(value):
@@ -36,9 +43,18 @@ def spoil(value):
             part["spoiled"] = 1
 
 
-ANSWERS = [able, ends, empties, fulls, lots, dead_lots, Rule().choices, KeptFirst().choices]
+def unkept_of(town):
+    return [ride[0] for ride in town.rides if not ride[3]]
+
+
+ANSWERS = [able, ends, empties, fulls, lots, dead_lots, Rule().choices, KeptFirst().choices,
+           lambda town: list(standings(town)), lambda town: can_stand(town, names_of(town), []),
+           lambda town: can_stand(town, names_of(town)[:1], []), lambda town: can_stand(town, [], unkept_of(town)),
+           lambda town: either(town, names_of(town)), lambda town: either(town, [])]
 FAIR_ANSWERS = [every, some, sure_riders, wise_rides, lambda town: list(bad_rings(town)),
-                lambda town: [why(town, ride[0]) for ride in town.rides]]
+                lambda town: [why(town, ride[0]) for ride in town.rides], worst, order_counts,
+                lambda town: list(LeftFamily(town)), Wise(Rule()).choices,
+                lambda town: [] if dead_lots(town) else before_pairs(town)]
 
 
 class AnswersTest(unittest.TestCase):
@@ -111,6 +127,47 @@ class ArgumentsTest(unittest.TestCase):
             before = copy.deepcopy(verdict)
             judge_every(town, verdict)
             self.assertEqual(verdict, before)
+
+    def test_lists_of_a_standing(self):
+        for town in random_towns(60, 64):
+            done, road = names_of(town)[::-2], unkept_of(town)[::-1]
+            before = (list(done), list(road), rows(town))
+            error_of(can_stand, town, done, road)
+            self.assertEqual((done, road, rows(town)), before)
+
+    def test_names_that_may_be_turned(self):
+        for town in random_towns(60, 65):
+            names = names_of(town)[::-1]
+            turned, told = turn(town, names), either(town, names)
+            self.assertEqual(names, names_of(town)[::-1])
+            before, kept = rows(turned), copy.deepcopy(told)
+            names.clear()
+            self.assertEqual((rows(turned), told), (before, kept))
+
+    def test_answers_to_judge_worst(self):
+        for town in fair_towns(60, 66):
+            answer = worst(town)
+            before = copy.deepcopy(answer)
+            judge_worst(town, answer)
+            self.assertEqual(answer, before)
+
+    def test_a_family(self):
+        town = dry()
+        family = LeftFamily(town)
+        names = ["r2", "r1"]
+        self.assertTrue(names in family)
+        self.assertEqual(family.rank(names), 1)
+        self.assertEqual(names, ["r2", "r1"])
+        spoil([names, list(family)])
+        self.assertEqual(list(family), [(), ("r1", "r2")])
+        self.assertEqual(rows(town), rows(dry()))
+
+    def test_numbers(self):
+        for town in fair_towns(40, 67):
+            before = rows(town)
+            answers = [count_standings(town), chance(town), mean_left(town)]
+            self.assertEqual([count_standings(town), chance(town), mean_left(town)], answers)
+            self.assertEqual(rows(town), before)
 
     def test_towns_of_a_runner(self):
         town = dry()
