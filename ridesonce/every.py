@@ -4,19 +4,8 @@ from ridesonce.endings import order_leaving
 from ridesonce.ends import empties, fulls
 from ridesonce.errors import CannotGo, UnknownRide
 from ridesonce.needs import need_fair
-from ridesonce.rings import KINDS, is_bad_ring, ring_with, rides_inside
+from ridesonce.rings import first_bad_ring, is_bad_ring, rides_inside
 from ridesonce.steps import is_stopped, run
-
-
-def _first_bad_ring(town):
-    """A kind and a ring of it, an empty one if there is one, or None."""
-    for kind in KINDS:
-        rides = rides_inside(town, kind)
-        for first in rides:
-            ring = ring_with(rides, first)
-            if ring is not None:
-                return (kind, ring)
-    return None
 
 
 def _longest_rows(stations, rides):
@@ -32,7 +21,7 @@ def _longest_rows(stations, rides):
 def every(town):
     """That every final order is complete, with numbers that show it, or a ring that can be left."""
     need_fair(town)
-    found = _first_bad_ring(town)
+    found = first_bad_ring(town)
     if found is not None:
         kind, ring = found
         return ("no", kind, ring, order_leaving(town, ring))

@@ -44,3 +44,22 @@ def pushed(flow, row, number):
     for at, sign in row:
         after[at] += sign * number
     return after
+
+
+def _room(arcs, flow, at, sign):
+    return arcs[at][2] - flow[at] if sign == 1 else flow[at]
+
+
+def cheapest_flow(arcs, start, goal):
+    """The greatest flow from the start to the goal, and of such flows one of least price.
+
+    Rows of fewest arcs among the cheapest ones keep their number small, however
+    much room there is.
+    """
+    flow = [0 for _ in arcs]
+    rows = cheapest_rows(arcs, flow, start)
+    while goal in rows:
+        _, row = rows[goal]
+        flow = pushed(flow, row, min([_room(arcs, flow, at, sign) for at, sign in row]))
+        rows = cheapest_rows(arcs, flow, start)
+    return flow

@@ -2,15 +2,21 @@
 
 from ridesonce.ends import empties, fulls
 from ridesonce.needs import need_fair, need_small
+from ridesonce.towns import STREET
 
 KINDS = ("empty", "full")
 
 
+def rides_of_kind(rides, kind):
+    """The rides that can be in rings of the kind: those between stations, for "full" the kept ones."""
+    between = [ride for ride in rides if STREET not in ride[1:3]]
+    return between if kind == "empty" else [ride for ride in between if ride[3]]
+
+
 def rides_inside(town, kind):
-    """The rides that rings of the kind consist of: all between stations of that end, for "full" the kept ones."""
+    """The rides that bad rings of the kind consist of: those between two stations of that end."""
     stations = empties(town) if kind == "empty" else fulls(town)
-    rides = [ride for ride in town.rides if ride[1] in stations and ride[2] in stations]
-    return rides if kind == "empty" else [ride for ride in rides if ride[3]]
+    return [ride for ride in rides_of_kind(town.rides, kind) if ride[1] in stations and ride[2] in stations]
 
 
 def rides_of_both_kinds(town):
@@ -55,6 +61,17 @@ def ring_with(rides, first):
     return None if back is None else [first[0]] + [ride[0] for ride in back]
 
 
+def first_bad_ring(town):
+    """The kind and the names of a bad ring, an empty one if there is one, or None."""
+    for kind in KINDS:
+        rides = rides_inside(town, kind)
+        for first in rides:
+            ring = ring_with(rides, first)
+            if ring is not None:
+                return (kind, ring)
+    return None
+
+
 def bad_ring_with(town, name):
     """The kind and the names of a bad ring that begins with the ride, or None."""
     for kind in KINDS:
@@ -71,8 +88,8 @@ def _can_follow(rides, row, at):
     return rides[row[-1]][2] == rides[at][1] and rides[at][1] not in [rides[k][1] for k in row]
 
 
-def _all_rings(rides):
-    """All rings of the rides as lists of positions, in the order of bad_rings.
+def all_rings(rides):
+    """All rings of the rides as lists of names, in the order of bad_rings.
 
     Rows that begin with their first position grow by one ride at a time. They
     are in order before they grow, and so they are in order behind it.
@@ -84,7 +101,7 @@ def _all_rings(rides):
         rows = [
             [*row, at] for row in rows for at in range(row[0] + 1, len(rides)) if _can_follow(rides, row, at)
         ]
-    return rings
+    return [[rides[at][0] for at in ring] for ring in rings]
 
 
 def bad_rings(town):
@@ -92,6 +109,5 @@ def bad_rings(town):
     need_fair(town)
     need_small(town)
     for kind in KINDS:
-        rides = rides_inside(town, kind)
-        for ring in _all_rings(rides):
-            yield (kind, [rides[at][0] for at in ring])
+        for ring in all_rings(rides_inside(town, kind)):
+            yield (kind, ring)

@@ -90,6 +90,21 @@ def fair_towns(number, seed=1, *, most_stations=4, most_rides=8, most_passes=8):
     return found
 
 
+def ring_towns(number, seed=1, *, most_rides=8):
+    """Fair towns whose rides are joined from rings, at stations that are all empty or all full in the end."""
+    chance = random.Random(seed)
+    found = []
+    for _ in range(number):
+        level = chance.choice([0, 3])
+        names = [f"s{at}" for at in range(chance.randint(2, 6))]
+        rides, many = [], chance.randint(2, most_rides)
+        while many - len(rides) >= 2:
+            row = chance.sample(names, chance.randint(2, min(len(names), many - len(rides))))
+            rides += [(f"r{len(rides) + at}", row[at - 1], row[at], True) for at in range(len(row))]
+        found.append(Town([(name, 3, level) for name in names], rides))
+    return found
+
+
 def end_numbers(town):
     return {
         name: bikes + sum(ride[2] == name for ride in town.rides) - sum(ride[1] == name for ride in town.rides)
@@ -246,3 +261,64 @@ def all_rings(town):
                 if position[row[0]] == min(position[name] for name in row) and is_ring(town, kind, list(row)):
                     found.append((kind, list(row)))
     return found
+
+
+def rings_of_sorts(rides, kept_alone):
+    """All rings of a table of sorts, each beginning with its first sort, found by going on from ride to ride."""
+    rides = [ride for ride in rides if "street" not in ride[1:3] and (ride[3] or not kept_alone)]
+    found = []
+
+    def walk(row):
+        if rides[row[-1]][2] == rides[row[0]][1]:
+            found.append([rides[at][0] for at in row])
+            return
+        for at in range(row[0] + 1, len(rides)):
+            if rides[at][1] == rides[row[-1]][2] and rides[at][1] not in [rides[k][1] for k in row]:
+                walk(row + [at])
+
+    for at in range(len(rides)):
+        walk([at])
+    return found
+
+
+def crowd_numbers(town, crowd):
+    """The crowd's end numbers, told word by word."""
+    return {name: bikes + sum(crowd[ride[0]] for ride in town.rides if ride[2] == name)
+            - sum(crowd[ride[0]] for ride in town.rides if ride[1] == name) for name, _, bikes in town.stations}
+
+
+def crowd_is_fair(town, crowd):
+    numbers = crowd_numbers(town, crowd)
+    return all(0 <= numbers[name] <= docks for name, docks, _ in town.stations)
+
+
+def ring_of_crowd(town, crowd):
+    """The kind and the sorts of a ring that the crowd brings to its ends, or None."""
+    docks = {name: number for name, number, _ in town.stations}
+    numbers = crowd_numbers(town, crowd)
+    rides = [ride for ride in town.rides if crowd[ride[0]] > 0]
+    for kind in ("empty", "full"):
+        for ring in rings_of_sorts(rides, kind == "full"):
+            places = [town.ride(name)[1] for name in ring]
+            if all(numbers[place] == (0 if kind == "empty" else docks[place]) for place in places):
+                return kind, ring
+    return None
+
+
+def shows_a_ring(town, kind, ring, crowd):
+    """Whether a crowd is fair and brings a ring to its ends, as the document says of always."""
+    if list(crowd) != names_of(town) and sorted(crowd) != sorted(names_of(town)):
+        return False
+    if any(not 0 <= number <= 10 ** 9 for number in crowd.values()) or not crowd_is_fair(town, crowd):
+        return False
+    rides = [town.ride(name) for name in ring]
+    linked = all(one[2] == two[1] for one, two in zip(rides, rides[1:] + rides[:1]))
+    places = [ride[1] for ride in rides]
+    if len(ring) < 2 or not linked or len(set(places)) < len(places) or "street" in places:
+        return False
+    numbers = crowd_numbers(town, crowd)
+    if kind == "empty":
+        right = all(numbers[place] == 0 for place in places)
+    else:
+        right = all(ride[3] for ride in rides) and all(numbers[place] == town.docks(place) for place in places)
+    return kind in ("empty", "full") and right and all(crowd[name] >= 1 for name in ring)

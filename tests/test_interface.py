@@ -5,18 +5,24 @@ import inspect
 import unittest
 
 from helper import brim, dry, error_of, rows
+from ridesonce.ahead import ahead, call_off
 from ridesonce.chances import chance, mean_left, order_counts
+from ridesonce.cheapest import cheapest_mends
+from ridesonce.crowds import crowd_ends, crowd_town
 from ridesonce.eitherway import either
 from ridesonce.ends import ends
 from ridesonce.every import every
+from ridesonce.leastcrowd import least_crowd
 from ridesonce.leftover import LeftFamily
 from ridesonce.lots import dead_lots
+from ridesonce.mends import mended
 from ridesonce.notation import read_town, write_town
 from ridesonce.rings import bad_rings
 from ridesonce.rules import Rule
 from ridesonce.runner import Runner
 from ridesonce.senders import Wise
 from ridesonce.some import some, wise_rides
+from ridesonce.sorts import always, bike_range, free_pairs, tight_rows
 from ridesonce.standings import before_pairs, can_stand, standings
 from ridesonce.steps import able, go, is_stuck, run
 from ridesonce.sure import sure_riders, why
@@ -38,6 +44,12 @@ FUNCTIONS = {
     "eitherway": {"turn": "(town, names)", "either": "(town, names)"},
     "worst": {"worst": "(town)", "judge_worst": "(town, answer)"},
     "chances": {"order_counts": "(town)", "chance": "(town)", "mean_left": "(town)"},
+    "crowds": {"crowd_ends": "(town, crowd)", "crowd_town": "(town, crowd)"},
+    "sorts": {"always": "(town)", "tight_rows": "(town)", "free_pairs": "(town)", "bike_range": "(town)"},
+    "leastcrowd": {"least_crowd": "(town)"},
+    "mends": {"mended": "(town, mends)"},
+    "cheapest": {"cheapest_mends": "(town, prices)", "judge_mends": "(town, prices, answer)"},
+    "ahead": {"ahead": "(town)", "call_off": "(town)"},
 }
 METHODS = {
     ("towns", "Town"): {
@@ -111,6 +123,19 @@ class NamesTest(unittest.TestCase):
         for part in every(dry().without(["r4"])) [1:]:
             self.assertIs(type(part), dict)
 
+    def test_kinds_of_values_about_crowds_and_mends(self):
+        crowd = {"r1": 1, "r2": 0, "r3": 2, "r4": 0}
+        self.assertIs(type(crowd_ends(dry(), crowd)), dict)
+        for town in (crowd_town(dry(), crowd), mended(dry(), [("spare", "a")])):
+            self.assertIs(type(town), Town)
+        for value in (tight_rows(dry()), free_pairs(dry()), call_off(dry()), ahead(dry())[0], ahead(dry())[1],
+                      always(dry())[2], least_crowd(dry())[2]):
+            self.assertIs(type(value), list)
+        for value in (always(dry()), least_crowd(dry()), ahead(dry()), cheapest_mends(dry(), {}), tight_rows(dry())[0]):
+            self.assertIs(type(value), tuple)
+        for value in (always(dry())[3], least_crowd(dry())[3]):
+            self.assertIs(type(value), dict)
+
 
 class ExamplesTest(unittest.TestCase):
     def test_towns(self):
@@ -160,6 +185,22 @@ class ExamplesTest(unittest.TestCase):
         self.assertEqual(worst(dry()), (2, ["r1", "r2"], {"a": 0, "b": 0}))
         self.assertEqual(order_counts(dry()), [((), 1), (("r1", "r2"), 1)])
         self.assertEqual((chance(dry()), mean_left(dry())), ((1, 2), (1, 1)))
+
+    def test_sorts(self):
+        self.assertEqual(tight_rows(dry()), [("empty", ["a", "b", "c"], 4, 5), ("full", ["a", "b", "c"], 4, 1)])
+        pair = Town([("a", 2, 1), ("b", 2, 1)], [("r1", "a", "b", True), ("r2", "b", "a", True)])
+        self.assertEqual(always(pair), ("yes", [("empty", ["a", "b"], 4, 2), ("full", ["a", "b"], 4, 2)]))
+        self.assertEqual(bike_range(pair), (1, 3))
+
+    def test_cheapest_mends(self):
+        tree = ("ring", ["r1", "r2"], [(("reserve", "a"), ("price", 3)), (("reserve", "b"), ("price", 2))])
+        expected = ("yes", 2, [("reserve", "b")], tree, ("price", 0))
+        self.assertEqual(cheapest_mends(dry(), {("reserve", "a"): 3, ("reserve", "b"): 2}), expected)
+        self.assertEqual(cheapest_mends(dry(), {("spare", "a"): 1}), ("no", "empty", ["r1", "r2"]))
+
+    def test_ahead(self):
+        self.assertEqual(ahead(dry()), (["r1", "r3"], ["r3", "r1"]))
+        self.assertEqual(call_off(dry()), ["r4"])
 
 
 if __name__ == "__main__":

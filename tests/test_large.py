@@ -3,20 +3,26 @@
 import time
 import unittest
 
-from helper import (SECONDS, error_of, inside, is_fair, is_ring, large_town, left_after, names_of, rows, standing_of,
-                    state_after)
+from helper import (SECONDS, error_of, inside, is_fair, is_ring, large_town, left_after, names_of, rows,
+                    shows_a_ring, standing_of, state_after)
+from ridesonce.ahead import ahead, call_off
 from ridesonce.chances import chance, mean_left, order_counts
+from ridesonce.cheapest import cheapest_mends, judge_mends
+from ridesonce.crowds import crowd_ends, crowd_town
 from ridesonce.eitherway import either, turn
 from ridesonce.ends import ends
 from ridesonce.every import every, judge_every
+from ridesonce.leastcrowd import least_crowd
 from ridesonce.leftover import LeftFamily
 from ridesonce.lots import dead_lots, lots
+from ridesonce.mends import mended
 from ridesonce.notation import read_town, write_town
 from ridesonce.rings import bad_rings
 from ridesonce.rules import EmptiestGoal, FullestStart, KeptFirst, LastBooked, Rule
 from ridesonce.runner import Runner
 from ridesonce.senders import Wise
 from ridesonce.some import some, wise_rides
+from ridesonce.sorts import always, bike_range, free_pairs
 from ridesonce.standings import before_pairs, can_stand, count_standings, standings
 from ridesonce.steps import able, is_stopped, run
 from ridesonce.sure import sure_riders, why
@@ -72,7 +78,8 @@ class LargeTest(unittest.TestCase):
 
     def test_what_needs_a_small_town_raises_too_large(self):
         for town in self.towns:
-            for call in (count_standings, LeftFamily, before_pairs, order_counts, chance, mean_left):
+            for call in (count_standings, LeftFamily, before_pairs, order_counts, chance, mean_left, least_crowd, ahead,
+                         call_off, lambda town: cheapest_mends(town, {}), lambda town: judge_mends(town, {}, ("yes",))):
                 self.assertEqual(error_of(call, town), ("TooLarge", town.passes()))
             for made in (bad_rings(town), standings(town)):
                 self.assertEqual(error_of(list, made), ("TooLarge", town.passes()))
@@ -158,6 +165,32 @@ class LargeTest(unittest.TestCase):
             self.assertTrue(judge_worst(town, worst(town)))
             numbers.append(worst(town)[0])
         self.assertEqual(numbers, [12, 0, 24, 0, 0])
+
+    def test_crowds(self):
+        for town in self.towns:
+            one = {name: 1 for name in names_of(town)}
+            self.assertEqual(crowd_ends(town, one), ends(town))
+            self.assertEqual(len(crowd_town(town, one).rides), 24)
+            self.assertEqual(error_of(crowd_town, town, {**one, names_of(town)[0]: 10 ** 9}), ("TooLarge", 10 ** 9 + 23))
+
+    def test_sorts(self):
+        words = []
+        for town in self.towns:
+            told = always(town)
+            words.append(told[0])
+            if told[0] == "no":
+                self.assertTrue(shows_a_ring(town, *told[1:]))
+                self.assertEqual(free_pairs(town), [])
+            self.assertEqual(bike_range(town) is None, rows(town) != rows(full_tangle(True)))
+        self.assertEqual(words, ["no", "yes", "no", "yes", "yes"])
+        self.assertIn(("s11", "s0"), free_pairs(full_tangle(False)))
+        self.assertNotIn(("s11", "s0"), free_pairs(long_rows()))
+
+    def test_mended(self):
+        for town in self.towns:
+            after = mended(town, [("unkept", ride[0]) for ride in town.rides if "street" not in ride[1:3]])
+            self.assertEqual([ride[3] for ride in after.rides], ["street" in ride[1:3] for ride in town.rides])
+            self.assertEqual(error_of(mended, town, [("spare", town.stations[0][0])]), ("BadNumber", 1000000))
 
 
 if __name__ == "__main__":

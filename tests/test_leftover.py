@@ -37,6 +37,16 @@ class LeftFamilyTest(unittest.TestCase):
         expected = [(), ("p", "q"), ("p", "r"), ("q", "s"), ("r", "s"), ("p", "q", "r", "s")]
         self.assertEqual(list(LeftFamily(same_ends())), expected)
 
+    def test_town_order_is_not_that_of_the_alphabet(self):
+        names = {"p": "z", "q": "b", "r": "y", "s": "a"}
+        town = Town(same_ends().stations, [(names.get(ride[0], ride[0]), *ride[1:]) for ride in same_ends().rides])
+        family = LeftFamily(town)
+        self.assertEqual(list(family), [(), ("z", "b"), ("z", "y"), ("b", "a"), ("y", "a"), ("z", "b", "y", "a")])
+        self.assertEqual([family.rank(list(row)) for row in family], list(range(6)))
+        self.assertEqual([family.rank(sorted(row)) for row in family], list(range(6)))
+        self.assertTrue(["a", "b"] in family and ["b", "a"] in family)
+        self.assertFalse(["b", "y"] in family)
+
     def test_the_empty_list_is_not_always_there(self):
         dead = Town([("a", 2, 0), ("b", 2, 0)], [("r0", "a", "b", True), ("r1", "b", "a", True)])
         self.assertEqual(list(LeftFamily(dead)), [("r0", "r1")])

@@ -4,23 +4,30 @@ import copy
 import unittest
 
 from helper import (BRIM_RIDES, BRIM_STATIONS, DRY_RIDES, DRY_STATIONS, brim, dry, error_of, fair_towns, names_of,
-                    random_towns, rows)
+                    random_towns, ring_towns, rows)
+from ridesonce.ahead import ahead, call_off
 from ridesonce.chances import chance, mean_left, order_counts
+from ridesonce.cheapest import cheapest_mends, judge_mends
+from ridesonce.crowds import crowd_ends, crowd_town
 from ridesonce.eitherway import either, turn
 from ridesonce.ends import empties, ends, fulls
 from ridesonce.every import every, judge_every
+from ridesonce.leastcrowd import least_crowd
 from ridesonce.leftover import LeftFamily
 from ridesonce.lots import dead_lots, lots
+from ridesonce.mends import mended
 from ridesonce.rings import bad_rings
 from ridesonce.rules import KeptFirst, Rule
 from ridesonce.runner import Runner
 from ridesonce.senders import Wise
 from ridesonce.some import some, wise_rides
+from ridesonce.sorts import always, bike_range, free_pairs, tight_rows
 from ridesonce.standings import before_pairs, can_stand, count_standings, standings
 from ridesonce.steps import able, go, run
 from ridesonce.sure import sure_riders, why
 from ridesonce.towns import Town
 from ridesonce.worst import judge_worst, worst
+from test_mends import mends_of
 
 
 def parts(value):
@@ -50,11 +57,15 @@ def unkept_of(town):
 ANSWERS = [able, ends, empties, fulls, lots, dead_lots, Rule().choices, KeptFirst().choices,
            lambda town: list(standings(town)), lambda town: can_stand(town, names_of(town), []),
            lambda town: can_stand(town, names_of(town)[:1], []), lambda town: can_stand(town, [], unkept_of(town)),
-           lambda town: either(town, names_of(town)), lambda town: either(town, [])]
+           lambda town: either(town, names_of(town)), lambda town: either(town, []),
+           lambda town: crowd_ends(town, {name: 2 for name in names_of(town)}), always, tight_rows, free_pairs,
+           least_crowd, call_off]
 FAIR_ANSWERS = [every, some, sure_riders, wise_rides, lambda town: list(bad_rings(town)),
                 lambda town: [why(town, ride[0]) for ride in town.rides], worst, order_counts,
                 lambda town: list(LeftFamily(town)), Wise(Rule()).choices,
-                lambda town: [] if dead_lots(town) else before_pairs(town)]
+                lambda town: [] if dead_lots(town) else before_pairs(town), ahead,
+                lambda town: cheapest_mends(town, {mend: 1 for mend in mends_of(town)}),
+                lambda town: cheapest_mends(town, {mend: 1 for mend in mends_of(town)[::2]})]
 
 
 class AnswersTest(unittest.TestCase):
@@ -76,7 +87,7 @@ class AnswersTest(unittest.TestCase):
                 self.check(answer, town)
 
     def test_changing_an_answer_about_a_fair_town(self):
-        for town in fair_towns(150, 62) + [dry(), brim(), Town.empty(), dry().without(["r4"])]:
+        for town in fair_towns(150, 62) + ring_towns(20, 69) + [dry(), brim(), Town.empty(), dry().without(["r4"])]:
             for answer in FAIR_ANSWERS:
                 self.check(answer, town)
 
@@ -162,11 +173,35 @@ class ArgumentsTest(unittest.TestCase):
         self.assertEqual(list(family), [(), ("r1", "r2")])
         self.assertEqual(rows(town), rows(dry()))
 
+    def test_crowds(self):
+        for town in random_towns(60, 68):
+            crowd = {name: 1 for name in names_of(town)[::-1]}
+            before = (list(crowd.items()), rows(town))
+            numbers, made = crowd_ends(town, crowd), crowd_town(town, crowd)
+            self.assertEqual((list(crowd.items()), rows(town)), before)
+            kept = (dict(numbers), rows(made))
+            crowd.clear()
+            self.assertEqual((numbers, rows(made)), kept)
+
+    def test_prices_and_mends(self):
+        for town in ring_towns(40, 70):
+            prices = {mend: at for at, mend in enumerate(mends_of(town)[::-1])}
+            before = (list(prices.items()), rows(town))
+            answer = cheapest_mends(town, prices)
+            kept = copy.deepcopy(answer)
+            self.assertTrue(judge_mends(town, prices, answer))
+            after = mended(town, answer[2])
+            self.assertEqual((list(prices.items()), rows(town), answer), (*before, kept))
+            told = rows(after)
+            spoil(answer[2])
+            prices.clear()
+            self.assertEqual((rows(after), rows(town)), (told, before[1]))
+
     def test_numbers(self):
         for town in fair_towns(40, 67):
             before = rows(town)
-            answers = [count_standings(town), chance(town), mean_left(town)]
-            self.assertEqual([count_standings(town), chance(town), mean_left(town)], answers)
+            answers = [count_standings(town), chance(town), mean_left(town), bike_range(town)]
+            self.assertEqual([count_standings(town), chance(town), mean_left(town), bike_range(town)], answers)
             self.assertEqual(rows(town), before)
 
     def test_towns_of_a_runner(self):
