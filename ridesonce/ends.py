@@ -3,15 +3,20 @@
 from ridesonce.towns import STREET
 
 
-def ends(town):
-    """The end number of each station, as a dict in town order."""
-    numbers = {name: bikes for name, _, bikes in town.stations}
-    for _, start, goal, kept in town.rides:
+def end_numbers(stations, rides):
+    """The number of bikes that the rides leave at each of the stations, as a dict in their order."""
+    numbers = {name: bikes for name, _, bikes in stations}
+    for _, start, goal, kept in rides:
         if start != STREET:
             numbers[start] -= 1
         if goal != STREET:
             numbers[goal] += 1
     return numbers
+
+
+def ends(town):
+    """The end number of each station, as a dict in town order."""
+    return end_numbers(town.stations, town.rides)
 
 
 def first_unfair(town):

@@ -3,20 +3,26 @@
 from ridesonce.towns import STREET
 
 
-def _labels(town):
+def places_of(rides):
+    """The places at which the rides start and end."""
+    return [place for ride in rides for place in ride[1:3]]
+
+
+def _labels(rides):
     """A dict that gives two stations the same number if a chain of linked rides joins them."""
-    labels = {station[0]: at for at, station in enumerate(town.stations)}
-    for _, start, goal, kept in town.rides:
+    labels = {place: at for at, place in enumerate(places_of(rides))}
+    for _, start, goal, kept in rides:
         if STREET not in (start, goal):
             old, new = labels[start], labels[goal]
             labels = {place: new if label == old else label for place, label in labels.items()}
     return labels
 
 
-def _lots_of_rides(town):
-    labels = _labels(town)
+def linked_rides(rides):
+    """The lots of the rides as lists of rides, ordered by their first ones."""
+    labels = _labels(rides)
     found = {}
-    for ride in town.rides:
+    for ride in rides:
         station = ride[2] if ride[1] == STREET else ride[1]
         found.setdefault(labels[station], []).append(ride)
     return list(found.values())
@@ -24,11 +30,11 @@ def _lots_of_rides(town):
 
 def lots(town):
     """The lots as lists of names, ordered by their first names."""
-    return [[ride[0] for ride in lot] for lot in _lots_of_rides(town)]
+    return [[ride[0] for ride in lot] for lot in linked_rides(town.rides)]
 
 
 def _dead_kind(town, lot):
-    places = [place for ride in lot for place in ride[1:3]]
+    places = places_of(lot)
     if STREET in places:
         return None
     if all([town.bikes(place) == 0 for place in places]):
@@ -41,7 +47,7 @@ def _dead_kind(town, lot):
 def dead_lots(town):
     """The dead lots as tuples of the kind and the names, in the order of lots."""
     found = []
-    for lot in _lots_of_rides(town):
+    for lot in linked_rides(town.rides):
         kind = _dead_kind(town, lot)
         if kind is not None:
             found.append((kind, [ride[0] for ride in lot]))

@@ -13,10 +13,14 @@ def rides_of_kind(rides, kind):
     return between if kind == "empty" else [ride for ride in between if ride[3]]
 
 
+def rides_between(rides, kind, stations):
+    """The rides that can be in rings of the kind and run between two of the stations."""
+    return [ride for ride in rides_of_kind(rides, kind) if ride[1] in stations and ride[2] in stations]
+
+
 def rides_inside(town, kind):
     """The rides that bad rings of the kind consist of: those between two stations of that end."""
-    stations = empties(town) if kind == "empty" else fulls(town)
-    return [ride for ride in rides_of_kind(town.rides, kind) if ride[1] in stations and ride[2] in stations]
+    return rides_between(town.rides, kind, empties(town) if kind == "empty" else fulls(town))
 
 
 def rides_of_both_kinds(town):

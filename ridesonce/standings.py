@@ -64,7 +64,7 @@ def can_stand(town, done, road):
     return some(moved)
 
 
-def _all_that_come(town):
+def all_that_come(town):
     """All standings that can come, in the order of standings."""
     names = [ride[0] for ride in town.rides]
     found = []
@@ -80,14 +80,14 @@ def _all_that_come(town):
 def standings(town):
     """Yield all standings that can come, as tuples of two lists: who is done, who is on the road."""
     need_small(town)
-    for done, road in _all_that_come(town):
+    for done, road in all_that_come(town):
         yield (done, road)
 
 
 def count_standings(town):
     """The number of standings that can come."""
     need_small(town)
-    return len(_all_that_come(town))
+    return len(all_that_come(town))
 
 
 def before_pairs(town):
@@ -97,7 +97,7 @@ def before_pairs(town):
     if len(dead_lots(town)) > 0:
         raise NoOrder()
     # Each of these standings is passed by a complete order, and no others are.
-    passed = [done for done, road in _all_that_come(town) if len(dead_lots(town_after(town, done, road))) == 0]
+    passed = [done for done, road in all_that_come(town) if len(dead_lots(town_after(town, done, road))) == 0]
     names = [ride[0] for ride in town.rides]
     pairs = [(first, second) for first in names for second in names if first != second]
     return [pair for pair in pairs if all([pair[0] in done or pair[1] not in done for done in passed])]

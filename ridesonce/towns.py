@@ -29,18 +29,25 @@ def check_number(number, least, most):
         raise BadNumber(number)
 
 
-def check_station(station, taken):
-    """Raise the first error of a station; taken are the names of the earlier ones ([6])."""
-    name, docks, bikes = station
-    check_new_name(name, taken)
+def check_docks(docks, bikes):
+    """Raise the first error of the numbers of a station ([6])."""
     check_number(docks, 1, Town.MOST_DOCKS)
     check_number(bikes, 0, docks)
 
 
-def check_ride(ride, taken, stations):
-    """Raise the first error of a ride; taken are the names of the earlier ones ([6])."""
+def checked_stations(stations):
+    """The names of the stations; raises the first error of one ([6])."""
+    names = []
+    for name, docks, bikes in stations:
+        check_new_name(name, names)
+        check_docks(docks, bikes)
+        names.append(name)
+    return names
+
+
+def _check_ends(ride, stations):
+    """Raise the first error of a ride beside that of its name ([6])."""
     name, start, goal, kept = ride
-    check_new_name(name, taken)
     for place in (start, goal):
         if place != STREET and place not in stations:
             raise UnknownStation(place)
@@ -48,6 +55,16 @@ def check_ride(ride, taken, stations):
         raise SameEnds(name)
     if not kept and STREET in (start, goal):
         raise NotKept(name)
+
+
+def checked_rides(rides, stations):
+    """The names of the rides between these stations; raises the first error of one ([6])."""
+    names = []
+    for ride in rides:
+        check_new_name(ride[0], names)
+        _check_ends(ride, stations)
+        names.append(ride[0])
+    return names
 
 
 def check_count(count, most):
@@ -66,16 +83,11 @@ class Town:
     def __init__(self, stations, rides):
         check_count(len(stations), self.MOST_STATIONS)
         check_count(len(rides), self.MOST_RIDES)
-        self._stations = {}
-        for station in stations:
-            check_station(station, self._stations)
-            self._stations[station[0]] = tuple(station)
-        self._positions = {}
-        for ride in rides:
-            check_ride(ride, self._positions, self._stations)
-            self._positions[ride[0]] = len(self._positions)
+        names = checked_stations(stations)
+        self._positions = {name: at for at, name in enumerate(checked_rides(rides, names))}
         self.stations = tuple([tuple(station) for station in stations])
         self.rides = tuple([tuple(ride) for ride in rides])
+        self._stations = {station[0]: station for station in self.stations}
 
     @classmethod
     def empty(cls):

@@ -9,14 +9,17 @@ from ridesonce.ahead import ahead, call_off
 from ridesonce.chances import chance, mean_left, order_counts
 from ridesonce.cheapest import cheapest_mends
 from ridesonce.crowds import crowd_ends, crowd_town
+from ridesonce.districts import District, cut_town
 from ridesonce.eitherway import either
 from ridesonce.ends import ends
 from ridesonce.every import every
 from ridesonce.leastcrowd import least_crowd
 from ridesonce.leftover import LeftFamily
+from ridesonce.logbooks import Logbook
 from ridesonce.lots import dead_lots
 from ridesonce.mends import mended
 from ridesonce.notation import read_town, write_town
+from ridesonce.notes import answer_of, note_of
 from ridesonce.rings import bad_rings
 from ridesonce.rules import Rule
 from ridesonce.runner import Runner
@@ -26,7 +29,10 @@ from ridesonce.sorts import always, bike_range, free_pairs, tight_rows
 from ridesonce.standings import before_pairs, can_stand, standings
 from ridesonce.steps import able, go, is_stuck, run
 from ridesonce.sure import sure_riders, why
+from ridesonce.surroundings import part, placed
 from ridesonce.towns import Town
+from ridesonce.van import van_now, van_number
+from ridesonce.worlds import ask, possible
 from ridesonce.worst import worst
 
 FUNCTIONS = {
@@ -50,6 +56,11 @@ FUNCTIONS = {
     "mends": {"mended": "(town, mends)"},
     "cheapest": {"cheapest_mends": "(town, prices)", "judge_mends": "(town, prices, answer)"},
     "ahead": {"ahead": "(town)", "call_off": "(town)"},
+    "van": {"van_now": "(town, prices)", "van_number": "(town)"},
+    "districts": {"cut_town": "(town, names)"},
+    "notes": {"note_of": "(district)", "answer_of": "(town)"},
+    "surroundings": {"placed": "(district, surrounding)", "part": "(first, second)"},
+    "worlds": {"possible": "(log, moment, *, stopped=False)", "ask": "(log, name, moment)"},
 }
 METHODS = {
     ("towns", "Town"): {
@@ -70,6 +81,12 @@ METHODS = {
     ("leftover", "LeftFamily"): {"__init__": "(self, town)", "__len__": "(self)", "__getitem__": "(self, at)",
                                  "__iter__": "(self)", "__contains__": "(self, names)", "rank": "(self, names)",
                                  "holding": "(self, name)"},
+    ("districts", "District"): {"__init__": "(self, stations, border, rides)", "__add__": "(self, other)",
+                                "close": "(self, name, docks, bikes)", "as_town": "(self)"},
+    ("notes", "Note"): {"__add__": "(self, other)", "close": "(self, name, docks, bikes)", "answer": "(self)"},
+    ("logbooks", "Logbook"): {"__init__": "(self, town, *, slips=0)", "__setitem__": "(self, at, worth)",
+                              "__getitem__": "(self, at)", "__contains__": "(self, at)", "__len__": "(self)",
+                              "__iter__": "(self)", "withdraw": "(self, moment, station)"},
 }
 
 
@@ -100,6 +117,7 @@ class NamesTest(unittest.TestCase):
         self.assertIsInstance(vars(Town)["empty"], classmethod)
         for name in ("town", "order", "left"):
             self.assertIsInstance(vars(Runner)[name], property)
+        self.assertIsInstance(vars(Logbook)["town"], property)
 
     def test_generators(self):
         for generator in (bad_rings, standings):
@@ -112,6 +130,32 @@ class NamesTest(unittest.TestCase):
         for town in (dry(), Town.empty()):
             for row in (town.stations, town.rides, *town.stations, *town.rides):
                 self.assertIs(type(row), tuple)
+
+    def test_attributes_of_districts_notes_and_logs(self):
+        district = District([("x", 1, 0)], ["q", "p"], [("r", "p", "x", True)])
+        for one in (district, district.close("p", 2, 1), district + District([("y", 1, 1)], ["s"], [])):
+            for row in (one.stations, one.border, one.rides, *one.stations, *one.rides):
+                self.assertIs(type(row), tuple)
+        note = note_of(district)
+        for one in (note, note + note, note.close("q", 1, 0)):
+            self.assertEqual((type(one.border), type(one.form)), (tuple, tuple))
+        log = Logbook(dry(), slips=2)
+        self.assertEqual((vars(log)["slips"], rows(log.town)), (2, rows(dry())))
+
+    def test_kinds_of_values_about_districts_and_logs(self):
+        district = District([("x", 1, 0)], ["q", "p"], [("r", "p", "x", True)])
+        for one in (district, district.close("p", 2, 1), district + District([], ["q"], []), *cut_town(dry(), ["r1"])[:2]):
+            self.assertIs(type(one), District)
+        self.assertIs(type(placed(district, ([("q", 1, 0), ("p", 1, 1)], [], []))), Town)
+        for value in (cut_town(dry(), ["r1"]), answer_of(dry()), note_of(District([], [], [])).answer(), van_number(dry()),
+                      van_now(dry(), {}), part(district, District([], ["p", "q"], [])), ask(Logbook(dry()), "r1", 1),
+                      possible(Logbook(dry()), 1)[0], *list(van_number(dry())[1])):
+            self.assertIs(type(value), tuple)
+        for value in (cut_town(dry(), ["r1"])[2], van_now(dry(), {})[1], *part(district, District([], ["p", "q"], [])),
+                      possible(Logbook(dry()), 1), *possible(Logbook(dry()), 1)[0], *ask(Logbook(dry()), "r1", 1)[1:]):
+            self.assertIs(type(value), list)
+        self.assertIs(type(van_number(dry())[1]), dict)
+        self.assertIsNone(Logbook(brim()).__setitem__((1, "a"), 1))
 
     def test_kinds_of_values(self):
         for value in (able(dry()), sure_riders(dry()), wise_rides(dry()), dead_lots(dry()), Rule().choices(dry()),
@@ -201,6 +245,25 @@ class ExamplesTest(unittest.TestCase):
     def test_ahead(self):
         self.assertEqual(ahead(dry()), (["r1", "r3"], ["r3", "r1"]))
         self.assertEqual(call_off(dry()), ["r4"])
+
+    def test_van(self):
+        prices = {("bring", "a"): 3, ("bring", "b"): 2, ("take", "c"): 0}
+        self.assertEqual(van_now(run(dry(), ["r3", "r4"]), prices), (2, [("bring", "b")]))
+        self.assertEqual(van_number(dry()), (1, {("r1", "r2"): ("bring", "a")}))
+
+    def test_notes(self):
+        part_a = District([("x", 1, 0)], ["p", "q"], [("r1", "p", "x", True), ("r2", "x", "q", True)])
+        expected = ("fair", (("p", -1), ("q", 1)), ("ways", (("p", "q"),), ()), ("lots", (), ((("p", "q"), False, True),)))
+        self.assertEqual(note_of(part_a).form, expected)
+        expected = ("fair", (("q", 1),), ("ways", (), ()), ("lots", ("q",), ()))
+        self.assertEqual(note_of(part_a).close("p", 2, 1).form, expected)
+
+    def test_worlds(self):
+        log = Logbook(dry())
+        log[1, "c"] = 0
+        log[2, "c"] = 1
+        self.assertEqual(possible(log, 2), [(["r3", "r4"], []), (["r1", "r2", "r3", "r4"], [])])
+        self.assertEqual(ask(log, "r3", 1), ("sure", "done"))
 
 
 if __name__ == "__main__":

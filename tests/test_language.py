@@ -18,7 +18,7 @@ isspace isupper items join keys ljust lower lstrip partition pop remove replace 
 rstrip setdefault split splitlines startswith strip update upper values zfill bit_length add discard""".split())
 ALL_METHODS = {name for kind in (str, list, dict, set, bytes, int, tuple) for name in dir(kind)}
 DOUBLE = set("""__init__ __eq__ __repr__ __str__ __len__ __enter__ __exit__ __call__ __iter__ __getitem__
-__contains__""".split())
+__contains__ __setitem__ __add__""".split())
 LIBRARY = {"math": {"gcd"}}
 BARRED = re.compile(r"\b(type|typing|typing_extensions|enum|Enum|Generic|Protocol|ABC|namedtuple|NamedTuple|TypedDict|"
                     r"abstractmethod)\b|dataclass|overload|contextmanager|_wall|_WallAttr")
@@ -26,7 +26,7 @@ NOT_USED = set("""register mro elements open input law version_info with_traceba
 compile copyright credits delattr dir eval exec exit gc getattr globals hasattr help id importlib license locals
 methodcaller os quit setattr type vars sys""".split())
 STATEMENTS = (ast.FunctionDef, ast.ClassDef, ast.Assign, ast.AugAssign, ast.If, ast.While, ast.For, ast.Return,
-              ast.Break, ast.Continue, ast.Pass, ast.Raise, ast.Try, ast.Expr, ast.ImportFrom)
+              ast.Break, ast.Continue, ast.Pass, ast.Raise, ast.Try, ast.Expr, ast.ImportFrom, ast.Delete)
 
 
 def nodes(tree, *kinds):
@@ -187,7 +187,7 @@ class LanguageTest(unittest.TestCase):
                 if name in methods:
                     self.assertIsInstance(methods[name].body[-1], ast.Return)
                     self.assertEqual(len(methods[name].body), 1)
-            for name in ("__getitem__", "__contains__", "__len__"):
+            for name in ("__getitem__", "__contains__", "__len__", "__add__"):
                 changed = [node for node in nodes(methods.get(name, ast.Pass()), ast.Attribute, ast.Subscript)
                            if isinstance(node.ctx, ast.Store)]
                 self.assertFalse(changed)

@@ -9,14 +9,17 @@ from ridesonce.ahead import ahead, call_off
 from ridesonce.chances import chance, mean_left, order_counts
 from ridesonce.cheapest import cheapest_mends, judge_mends
 from ridesonce.crowds import crowd_ends, crowd_town
+from ridesonce.districts import District, cut_town
 from ridesonce.eitherway import either, turn
 from ridesonce.ends import ends
 from ridesonce.every import every, judge_every
 from ridesonce.leastcrowd import least_crowd
 from ridesonce.leftover import LeftFamily
+from ridesonce.logbooks import Logbook
 from ridesonce.lots import dead_lots, lots
 from ridesonce.mends import mended
 from ridesonce.notation import read_town, write_town
+from ridesonce.notes import answer_of, note_of
 from ridesonce.rings import bad_rings
 from ridesonce.rules import EmptiestGoal, FullestStart, KeptFirst, LastBooked, Rule
 from ridesonce.runner import Runner
@@ -26,7 +29,9 @@ from ridesonce.sorts import always, bike_range, free_pairs
 from ridesonce.standings import before_pairs, can_stand, count_standings, standings
 from ridesonce.steps import able, is_stopped, run
 from ridesonce.sure import sure_riders, why
+from ridesonce.surroundings import placed
 from ridesonce.towns import Town
+from ridesonce.van import van_now, van_number
 from ridesonce.worst import judge_worst, worst
 
 
@@ -79,7 +84,7 @@ class LargeTest(unittest.TestCase):
     def test_what_needs_a_small_town_raises_too_large(self):
         for town in self.towns:
             for call in (count_standings, LeftFamily, before_pairs, order_counts, chance, mean_left, least_crowd, ahead,
-                         call_off, lambda town: cheapest_mends(town, {}), lambda town: judge_mends(town, {}, ("yes",))):
+                         call_off, van_number, Logbook, lambda town: cheapest_mends(town, {}), lambda town: judge_mends(town, {}, ("yes",))):
                 self.assertEqual(error_of(call, town), ("TooLarge", town.passes()))
             for made in (bad_rings(town), standings(town)):
                 self.assertEqual(error_of(list, made), ("TooLarge", town.passes()))
@@ -185,6 +190,70 @@ class LargeTest(unittest.TestCase):
         self.assertEqual(words, ["no", "yes", "no", "yes", "yes"])
         self.assertIn(("s11", "s0"), free_pairs(full_tangle(False)))
         self.assertNotIn(("s11", "s0"), free_pairs(long_rows()))
+
+    def test_van_now(self):
+        numbers = []
+        for town in self.towns:
+            prices = {(word, station[0]): 7 for station in town.stations for word in ("bring", "take")}
+            price, deeds = van_now(town, prices)
+            self.assertEqual(price, 7 * len(dead_lots(town)))
+            after = town
+            for word, name in deeds:
+                after = after.with_bikes(name, after.bikes(name) + (1 if word == "bring" else -1))
+            self.assertEqual(dead_lots(after), [])
+            numbers.append(len(deeds))
+        self.assertEqual(numbers, [0, 0, 1, 0, 0])
+
+    def test_answer_of(self):
+        for town in self.towns:
+            self.assertEqual(answer_of(town), ("fair", every(town)[0] == "yes", some(town)[0] == "yes"))
+
+    def test_districts(self):
+        for town in self.towns:
+            whole = District(list(town.stations), [], list(town.rides))
+            self.assertEqual(note_of(whole).answer(), answer_of(town))
+            # As many stations on the border as there may be: the answer comes when they are closed again.
+            border = [station[0] for station in town.stations[-6:]]
+            part = District(list(town.stations[:-6]), border, list(town.rides))
+            self.assertEqual(rows(placed(part, (list(town.stations[-6:]), [], []))), rows(town))
+            note = note_of(part)
+            for row in town.stations[-6:][::-1]:
+                part, note = part.close(*row), note.close(*row)
+                self.assertEqual(note_of(part).form, note.form)
+            self.assertEqual(note.answer(), answer_of(town))
+            self.assertEqual(sorted(part.as_town().rides), sorted(town.rides))
+
+    def test_cut_towns(self):
+        for town in self.towns:
+            cuts = 0
+            for many in range(25):
+                names = names_of(town)[:many]
+                told = error_of(cut_town, town, names)
+                if told is None:
+                    cuts += 1
+                    first, second, between = cut_town(town, names)
+                    note, joined = note_of(first) + note_of(second), first + second
+                    for row in between:
+                        note, joined = note.close(*row), joined.close(*row)
+                    self.assertEqual((note.answer(), answer_of(joined.as_town())), (answer_of(town),) * 2)
+                else:
+                    self.assertEqual(told[0], "TooLarge")
+                    self.assertGreater(told[1], 6)
+            self.assertGreater(cuts, 6)
+
+    def test_notes_of_many_districts(self):
+        stations = [(f"s{at}", 999999, 999999 * (at % 2)) for at in range(12)]
+        border = ["p", "q", "b", "a", "d", "c"]
+        rides = [(f"r{at}", border[at % 6], f"s{at % 12}", at % 4 < 2) for at in range(12)]
+        rides += [(f"q{at}", f"s{at % 12}", border[at * 5 % 6], True) for at in range(12)]
+        note = many = note_of(District(stations, border, rides))
+        self.assertEqual(note.form[0], "fair")
+        for _ in range(100):
+            many = many + note
+        self.assertEqual(many.form, note.form)
+        for name in border:
+            many = many.close(name, 999999, 999999)
+        self.assertEqual(many.answer()[0], "fair")
 
     def test_mended(self):
         for town in self.towns:

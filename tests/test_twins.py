@@ -5,9 +5,11 @@ import unittest
 from helper import fair_towns, names_of, random_towns, ring_towns
 from ridesonce.chances import chance, mean_left
 from ridesonce.cheapest import cheapest_mends, judge_mends
+from ridesonce.districts import District
 from ridesonce.eitherway import either
 from ridesonce.leftover import LeftFamily
 from ridesonce.mends import mended
+from ridesonce.notes import note_of
 from ridesonce.sorts import bike_range
 from ridesonce.standings import can_stand
 from ridesonce.towns import Town
@@ -73,6 +75,13 @@ class TwinsTest(unittest.TestCase):
             self.assertEqual(told, renamed(answer, names))
             self.assertTrue(judge_mends(twin, prices_of_twin, told))
             self.assertEqual(mended(twin, told[2]).rides, renamed(mended(town, answer[2]).rides, names))
+
+    def test_notes(self):
+        for town in random_towns(100, 208):
+            for many in (0, 1, 2):
+                values = [list(town.stations[many:]), [station[0] for station in town.stations[:many]]]
+                one, two = District(*values, list(town.rides)), District(*values, list(twin_of(town).rides))
+                self.assertEqual(note_of(one).form, note_of(two).form)
 
     def test_families(self):
         for town in ring_towns(30, 207):

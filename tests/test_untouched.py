@@ -9,11 +9,13 @@ from ridesonce.ahead import ahead, call_off
 from ridesonce.chances import chance, mean_left, order_counts
 from ridesonce.cheapest import cheapest_mends, judge_mends
 from ridesonce.crowds import crowd_ends, crowd_town
+from ridesonce.districts import District, cut_town
 from ridesonce.eitherway import either, turn
 from ridesonce.ends import empties, ends, fulls
 from ridesonce.every import every, judge_every
 from ridesonce.leastcrowd import least_crowd
 from ridesonce.leftover import LeftFamily
+from ridesonce.logbooks import Logbook
 from ridesonce.lots import dead_lots, lots
 from ridesonce.mends import mended
 from ridesonce.rings import bad_rings
@@ -26,6 +28,8 @@ from ridesonce.standings import before_pairs, can_stand, count_standings, standi
 from ridesonce.steps import able, go, run
 from ridesonce.sure import sure_riders, why
 from ridesonce.towns import Town
+from ridesonce.van import van_now, van_number
+from ridesonce.worlds import ask, possible
 from ridesonce.worst import judge_worst, worst
 from test_mends import mends_of
 
@@ -54,18 +58,26 @@ def unkept_of(town):
     return [ride[0] for ride in town.rides if not ride[3]]
 
 
+def prices_of_deeds(town):
+    """The same price for each deed of the van."""
+    return {(word, station[0]): 3 for station in town.stations[::-1] for word in ("take", "bring")}
+
+
 ANSWERS = [able, ends, empties, fulls, lots, dead_lots, Rule().choices, KeptFirst().choices,
            lambda town: list(standings(town)), lambda town: can_stand(town, names_of(town), []),
            lambda town: can_stand(town, names_of(town)[:1], []), lambda town: can_stand(town, [], unkept_of(town)),
            lambda town: either(town, names_of(town)), lambda town: either(town, []),
            lambda town: crowd_ends(town, {name: 2 for name in names_of(town)}), always, tight_rows, free_pairs,
-           least_crowd, call_off]
+           least_crowd, call_off, lambda town: cut_town(town, names_of(town)[::2])[2],
+          lambda town: possible(Logbook(town), 2), lambda town: possible(Logbook(town), 4, stopped=True),
+          lambda town: [ask(Logbook(town), name, 3) for name in names_of(town)[:2]]]
 FAIR_ANSWERS = [every, some, sure_riders, wise_rides, lambda town: list(bad_rings(town)),
                 lambda town: [why(town, ride[0]) for ride in town.rides], worst, order_counts,
                 lambda town: list(LeftFamily(town)), Wise(Rule()).choices,
                 lambda town: [] if dead_lots(town) else before_pairs(town), ahead,
                 lambda town: cheapest_mends(town, {mend: 1 for mend in mends_of(town)}),
-                lambda town: cheapest_mends(town, {mend: 1 for mend in mends_of(town)[::2]})]
+                lambda town: cheapest_mends(town, {mend: 1 for mend in mends_of(town)[::2]}), van_number,
+                lambda town: van_now(town, prices_of_deeds(town))]
 
 
 class AnswersTest(unittest.TestCase):
@@ -196,6 +208,49 @@ class ArgumentsTest(unittest.TestCase):
             spoil(answer[2])
             prices.clear()
             self.assertEqual((rows(after), rows(town)), (told, before[1]))
+
+    def test_prices_of_deeds(self):
+        for town in ring_towns(40, 71):
+            prices = prices_of_deeds(town)
+            before = (list(prices.items()), rows(town))
+            answer = van_now(town, prices)
+            kept = copy.deepcopy(answer)
+            self.assertEqual((list(prices.items()), rows(town)), before)
+            prices.clear()
+            self.assertEqual(answer, kept)
+
+    def test_lists_that_a_district_was_made_from(self):
+        stations, border, rides = [("x", 1, 0)], ["q", "p"], [("r1", "p", "x", True)]
+        district = District(stations, border, rides)
+        self.assertEqual((stations, border, rides), ([("x", 1, 0)], ["q", "p"], [("r1", "p", "x", True)]))
+        for rest in (stations, border, rides):
+            rest.clear()
+        self.assertEqual(district.stations, (("x", 1, 0),))
+        self.assertEqual((district.border, district.rides), (("q", "p"), (("r1", "p", "x", True),)))
+        self.assertEqual(district.close("p", 1, 1).border, ("q",))
+
+    def test_names_of_a_cut(self):
+        for town in random_towns(40, 72):
+            names = names_of(town)[::-2]
+            first, second, between = cut_town(town, names)
+            self.assertEqual(names, names_of(town)[::-2])
+            before = (first.stations, first.border, first.rides, second.stations, second.border, second.rides)
+            spoil([names, between])
+            after = (first.stations, first.border, first.rides, second.stations, second.border, second.rides)
+            self.assertEqual(after, before)
+
+    def test_logs_are_asked_and_stay(self):
+        for town in random_towns(40, 73):
+            log = Logbook(town, slips=1)
+            for name, docks, _ in town.stations:
+                log[2, name] = docks
+            before = (list(log), rows(town))
+            for moment in (1, 2):
+                possible(log, moment)
+                for name in names_of(town)[:1]:
+                    ask(log, name, moment)
+            spoil(list(log))
+            self.assertEqual((list(log), rows(log.town)), before)
 
     def test_numbers(self):
         for town in fair_towns(40, 67):
