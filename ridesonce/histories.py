@@ -47,6 +47,11 @@ def costs_before(moves, wrong):
     return rows
 
 
+def fits(moves, notes, slips):
+    """Whether there is a world in which at most so many of the notes are wrong."""
+    return min(costs_before(moves, wrong_notes(moves, notes))[-1]) <= slips
+
+
 def costs_behind(moves, wrong):
     """The table of the fewest notes that are wrong from a moment on, with those of the moment."""
     rows = []

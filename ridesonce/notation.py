@@ -14,6 +14,12 @@ def is_number(word):
     return all([sign in DIGITS for sign in word]) and (word == "0" or word[0] != "0")
 
 
+def split_lines(text):
+    """The lines of a text that end with a newline, and whether there is one more that does not."""
+    rows = text.split("\n")
+    return (rows[:-1], rows[-1] != "")
+
+
 def _ride_line(ride):
     name, start, goal, kept = ride
     return f"ride {name} {start} {goal}\n" if kept else f"ride {name} {start} {goal} unkept\n"
@@ -44,9 +50,7 @@ def _with_line(town, words):
 
 def read_town(text):
     """The town of a text; raises BadLine with the number of the first wrong line."""
-    lines = text.split("\n")
-    # What stands behind the last newline is a line that does not end with one.
-    unended = lines.pop()
+    lines, unended = split_lines(text)
     town = Town.empty()
     for line, words in enumerate([row.split(" ") for row in lines], start=1):
         if not (_is_station_line(words) or _is_ride_line(words)):
@@ -55,6 +59,6 @@ def read_town(text):
             town = _with_line(town, words)
         except RidesError:
             raise BadLine(line) from None
-    if unended != "":
+    if unended:
         raise BadLine(len(lines) + 1)
     return town

@@ -17,11 +17,16 @@ def _fitting_rows(moves, wrong, moment, slips):
     return [at for at in range(len(moves)) if before[at] + behind[at] - prices[at] <= slips]
 
 
-def possible(log, moment, *, stopped=False):
-    """All standings that some fitting world has at the moment."""
+def rows_at(log, moment):
+    """The rows of all_moves that some fitting world has at the moment."""
     check_moment(moment)
     moves = all_moves(log.town)
-    rows = [moves[at] for at in _fitting_rows(moves, wrong_notes(moves, list(log)), moment, log.slips)]
+    return [moves[at] for at in _fitting_rows(moves, wrong_notes(moves, list(log)), moment, log.slips)]
+
+
+def possible(log, moment, *, stopped=False):
+    """All standings that some fitting world has at the moment."""
+    rows = rows_at(log, moment)
     return [(done, road) for done, road, _, steps in rows if not stopped or len(steps) == 0]
 
 

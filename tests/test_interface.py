@@ -6,9 +6,12 @@ import unittest
 
 from helper import brim, dry, error_of, rows
 from ridesonce.ahead import ahead, call_off
+from ridesonce.boards import board
+from ridesonce.bookverdicts import apart, judge_book, strike
 from ridesonce.chances import chance, mean_left, order_counts
 from ridesonce.cheapest import cheapest_mends
 from ridesonce.crowds import crowd_ends, crowd_town
+from ridesonce.desks import Desk
 from ridesonce.districts import District, cut_town
 from ridesonce.eitherway import either
 from ridesonce.ends import ends
@@ -16,13 +19,16 @@ from ridesonce.every import every
 from ridesonce.leastcrowd import least_crowd
 from ridesonce.leftover import LeftFamily
 from ridesonce.logbooks import Logbook
+from ridesonce.looks import best_look, clash
 from ridesonce.lots import dead_lots
 from ridesonce.mends import mended
 from ridesonce.notation import read_town, write_town
 from ridesonce.notes import answer_of, note_of
 from ridesonce.rings import bad_rings
+from ridesonce.rulebooks import RuleBook, let_rides
 from ridesonce.rules import Rule
 from ridesonce.runner import Runner
+from ridesonce.scripts import read_script, run_script
 from ridesonce.senders import Wise
 from ridesonce.some import some, wise_rides
 from ridesonce.sorts import always, bike_range, free_pairs, tight_rows
@@ -61,6 +67,11 @@ FUNCTIONS = {
     "notes": {"note_of": "(district)", "answer_of": "(town)"},
     "surroundings": {"placed": "(district, surrounding)", "part": "(first, second)"},
     "worlds": {"possible": "(log, moment, *, stopped=False)", "ask": "(log, name, moment)"},
+    "looks": {"best_look": "(log, moment)", "clash": "(log)"},
+    "rulebooks": {"let_rides": "(town, book)"},
+    "bookverdicts": {"judge_book": "(town, book)", "strike": "(town, book)", "apart": "(town, first, second)"},
+    "scripts": {"read_script": "(text)", "run_script": "(desk, text)"},
+    "boards": {"board": "(town)"},
 }
 METHODS = {
     ("towns", "Town"): {
@@ -87,6 +98,12 @@ METHODS = {
     ("logbooks", "Logbook"): {"__init__": "(self, town, *, slips=0)", "__setitem__": "(self, at, worth)",
                               "__getitem__": "(self, at)", "__contains__": "(self, at)", "__len__": "(self)",
                               "__iter__": "(self)", "withdraw": "(self, moment, station)"},
+    ("rulebooks", "RuleBook"): {"__init__": "(self, text)", "lets": "(self, town, name)", "__and__": "(self, other)",
+                                "__or__": "(self, other)"},
+    ("desks", "Desk"): {"__init__": "(self)", "add_station": "(self, name, docks, bikes)",
+                        "book": "(self, name, start, goal, *, kept=True)", "cancel": "(self, name)", "go": "(self, name)",
+                        "bring": "(self, name)", "take": "(self, name)", "undo": "(self)", "redo": "(self)",
+                        "set_guard": "(self, word)", "all_of": "(self, commands)", "verdict": "(self)"},
 }
 
 
@@ -118,6 +135,12 @@ class NamesTest(unittest.TestCase):
         for name in ("town", "order", "left"):
             self.assertIsInstance(vars(Runner)[name], property)
         self.assertIsInstance(vars(Logbook)["town"], property)
+        self.assertIsInstance(vars(RuleBook)["text"], property)
+        for name in ("town", "guard", "log", "riders"):
+            self.assertIsInstance(vars(Desk)[name], property)
+            self.assertEqual(vars(Desk)[name].fset is None, name != "guard")
+        self.assertIsInstance(vars(Desk)["replay"], classmethod)
+        self.assertEqual(str(inspect.signature(Desk.replay)), "(commands)")
 
     def test_generators(self):
         for generator in (bad_rings, standings):
@@ -156,6 +179,24 @@ class NamesTest(unittest.TestCase):
             self.assertIs(type(value), list)
         self.assertIs(type(van_number(dry())[1]), dict)
         self.assertIsNone(Logbook(brim()).__setitem__((1, "a"), 1))
+
+    def test_kinds_of_values_about_books_and_desks(self):
+        book = RuleBook("let r1 when bikes a >= 1\nlet *\n")
+        for one in (book, book & book, book | book):
+            self.assertIs(type(one), RuleBook)
+            self.assertEqual((type(vars(one)["lines"]), type(one.text)), (tuple, str))
+        for value in (let_rides(dry(), book), strike(dry(), book), *strike(dry(), book)[0], clash(Logbook(dry())),
+                      read_script("all\nend\n"), read_script("all\nend\n")[0][1], run_script(Desk(), "ask able\n"), Desk().log,
+                      judge_book(dry(), book)[1], apart(dry(), book, RuleBook(""))[0]):
+            self.assertIs(type(value), list)
+        for value in (judge_book(dry(), book), strike(dry(), book)[0], apart(dry(), book, RuleBook("")),
+                      best_look(Logbook(dry()), 1), read_script("all\nend\n")[0]):
+            self.assertIs(type(value), tuple)
+        desk = Desk.replay(["station a 1 0"])
+        self.assertEqual([type(one) for one in (desk, desk.town, desk.riders)], [Desk, Town, dict])
+        for value in (desk.guard, desk.verdict(), desk.log[0], board(desk.town), *run_script(desk, "ask able\n")):
+            self.assertIs(type(value), str)
+        self.assertIs(book.lets(dry(), "r1"), True)
 
     def test_kinds_of_values(self):
         for value in (able(dry()), sure_riders(dry()), wise_rides(dry()), dead_lots(dry()), Rule().choices(dry()),
@@ -264,6 +305,27 @@ class ExamplesTest(unittest.TestCase):
         log[2, "c"] = 1
         self.assertEqual(possible(log, 2), [(["r3", "r4"], []), (["r1", "r2", "r3", "r4"], [])])
         self.assertEqual(ask(log, "r3", 1), ("sure", "done"))
+        self.assertEqual(best_look(log, 2), ("a", 2))
+
+    def test_rulebooks(self):
+        book = RuleBook("let r3\nlet r1 when bikes a >= 1 and done r3\nlet r2\nlet r4 when done r2\n")
+        self.assertEqual(book.lines[1], ("r1", (("bikes", "a", ">=", 1), ("done", "r3"))))
+        expected = ("let r3 when waits r4\nlet r1 when bikes a >= 1 and done r3 and waits r4\nlet r2 when waits r4\n"
+                    "let r4 when done r2 and waits r4\n")
+        self.assertEqual((book & RuleBook("let * when waits r4\n")).text, expected)
+        self.assertEqual(judge_book(dry(), book), ("yes",))
+        self.assertEqual(judge_book(dry(), RuleBook("let *\n")), ("no", ["r3", "r4"]))
+        self.assertEqual(apart(dry(), book, RuleBook("let *\n")), (["r3"], "r4"))
+        expected = [([], [], ["r3"]), (["r3"], [], ["r1"]), (["r1", "r3"], [], ["r2"])]
+        self.assertEqual(strike(dry(), RuleBook("let *\n"))[:3], expected)
+
+    def test_scripts_and_boards(self):
+        self.assertEqual(read_script("again 2\nask able\nend\nundo\n"), [("again 2", ["ask able"]), "undo"])
+        opening = ("station a 2 0\nstation b 2 0\nstation c 2 1\nall\nbook r1 a b\nbook r2 b a\nbook r3 c a\nbook r4 a c\n"
+                   "end\n")
+        script = opening + "ask verdict\nask able\ngo r4\nif open\nsend\nend\nask riders\n"
+        self.assertEqual(run_script(Desk(), script), ["verdict open", "able r3", "refused go r4", "riders"])
+        self.assertEqual(board(Town([("a", 2, 0)], [])), "a              0       2       0  empty\n")
 
 
 if __name__ == "__main__":

@@ -18,7 +18,9 @@ isspace isupper items join keys ljust lower lstrip partition pop remove replace 
 rstrip setdefault split splitlines startswith strip update upper values zfill bit_length add discard""".split())
 ALL_METHODS = {name for kind in (str, list, dict, set, bytes, int, tuple) for name in dir(kind)}
 DOUBLE = set("""__init__ __eq__ __repr__ __str__ __len__ __enter__ __exit__ __call__ __iter__ __getitem__
-__contains__ __setitem__ __add__""".split())
+__contains__ __setitem__ __add__ __and__ __or__""".split())
+OPERATORS = set("__getitem__ __contains__ __len__ __add__ __and__ __or__".split())
+CHANGES = set("""append clear extend insert pop remove reverse setdefault update sort add discard""".split())
 LIBRARY = {"math": {"gcd"}}
 BARRED = re.compile(r"\b(type|typing|typing_extensions|enum|Enum|Generic|Protocol|ABC|namedtuple|NamedTuple|TypedDict|"
                     r"abstractmethod)\b|dataclass|overload|contextmanager|_wall|_WallAttr")
@@ -83,7 +85,17 @@ class LanguageTest(unittest.TestCase):
             for node in tree.body:
                 self.assertIsInstance(node, (ast.FunctionDef, ast.ClassDef, ast.Assign, ast.ImportFrom, ast.Expr))
             for node in [one for one in tree.body if isinstance(one, ast.Assign)]:
-                ast.literal_eval(node.value)
+                self.check_plain(tree, node.value)
+
+    def check_plain(self, tree, value):
+        """A plain value, or a table of functions that are defined above it."""
+        above = [one.name for one in tree.body if isinstance(one, ast.FunctionDef) and one.lineno < value.lineno]
+        if isinstance(value, ast.Dict) and all(isinstance(one, ast.Name) for one in value.values):
+            self.assertLessEqual({one.id for one in value.values}, set(above))
+            for key in value.keys:
+                ast.literal_eval(key)
+        else:
+            ast.literal_eval(value)
 
     def test_imports(self):
         for _, _, tree in self.each():
@@ -187,7 +199,7 @@ class LanguageTest(unittest.TestCase):
                 if name in methods:
                     self.assertIsInstance(methods[name].body[-1], ast.Return)
                     self.assertEqual(len(methods[name].body), 1)
-            for name in ("__getitem__", "__contains__", "__len__", "__add__"):
+            for name in OPERATORS:
                 changed = [node for node in nodes(methods.get(name, ast.Pass()), ast.Attribute, ast.Subscript)
                            if isinstance(node.ctx, ast.Store)]
                 self.assertFalse(changed)
@@ -195,11 +207,65 @@ class LanguageTest(unittest.TestCase):
         for _, text, _ in self.each():
             self.assertIsNone(re.search(r"\(type\)|Meta|metaclass=", text))
 
+    def functions_by_name(self):
+        """Every function and method of the package by its name; a class stands for the method that makes its objects."""
+        found = {}
+        for tree in self.trees.values():
+            for node in nodes(tree, ast.FunctionDef):
+                found.setdefault(node.name, []).append(node)
+            for owner in nodes(tree, ast.ClassDef):
+                found.setdefault(owner.name, []).extend(one for one in owner.body if getattr(one, "name", "") == "__init__")
+        return found
+
+    def reached_by_operators_and_properties(self):
+        named = self.functions_by_name()
+        fresh = [node for rows in named.values() for node in rows
+                 if node.name in OPERATORS or any(getattr(one, "id", "") == "property" for one in node.decorator_list)]
+        reached = []
+        while fresh:
+            node = fresh.pop()
+            if node not in reached:
+                reached.append(node)
+                called = [one.func for one in nodes(node, ast.Call)]
+                names = [getattr(one, "id", None) or getattr(one, "attr", None) for one in called]
+                fresh += [one for name in names for one in named.get(name, [])]
+        return reached
+
+    def is_own(self, function, receiver):
+        """Whether a list or dict was made by the function itself."""
+        if not isinstance(receiver, ast.Name):
+            return False
+        values = [node.value for node in nodes(function, ast.Assign)
+                  if receiver.id in [one.id for target in node.targets for one in nodes(target, ast.Name)]]
+        made = [isinstance(one, (ast.List, ast.Dict, ast.ListComp, ast.DictComp))
+                or (isinstance(one, ast.Call) and getattr(one.func, "id", "") in ("list", "dict", "sorted")) for one in values]
+        return len(made) > 0 and all(made)
+
+    def test_operators_and_properties_change_nothing(self):
+        reached = self.reached_by_operators_and_properties()
+        self.assertLessEqual({"joined_form", "checked_rides", "split_lines", "riders", "__or__"}, {node.name for node in reached})
+        for function in reached:
+            for node in nodes(function, ast.Call):
+                if getattr(node.func, "attr", "") in CHANGES:
+                    self.assertTrue(self.is_own(function, node.func.value), ast.unparse(node))
+            for node in nodes(function, ast.Subscript):
+                if not isinstance(node.ctx, ast.Load):
+                    self.assertTrue(self.is_own(function, node.value), ast.unparse(node))
+            for node in nodes(function, ast.Attribute):
+                if not isinstance(node.ctx, ast.Load):
+                    self.assertEqual((function.name, node.value.id), ("__init__", "self"), ast.unparse(node))
+            for node in nodes(function, ast.AugAssign):
+                self.assertIsInstance(node.value, ast.Constant)
+            self.assertFalse(nodes(function, ast.Delete, ast.Yield))
+
     def test_decorators_and_bases(self):
         for _, _, tree in self.each():
             for node in nodes(tree, ast.FunctionDef):
                 for decorator in node.decorator_list:
-                    self.assertIn(decorator.id, ("property", "staticmethod", "classmethod"))
+                    if isinstance(decorator, ast.Attribute):
+                        self.assertEqual((decorator.value.id, decorator.attr), (node.name, "setter"))
+                    else:
+                        self.assertIn(decorator.id, ("property", "staticmethod", "classmethod"))
                 if node.name.startswith("__"):
                     self.assertIn(node.name, DOUBLE)
             self.assertFalse([node for node in nodes(tree, ast.ClassDef) if node.decorator_list])
@@ -207,7 +273,8 @@ class LanguageTest(unittest.TestCase):
     def test_methods_and_attributes_have_different_names(self):
         for _, _, tree in self.each():
             for owner in nodes(tree, ast.ClassDef):
-                methods = [node.name for node in owner.body if isinstance(node, ast.FunctionDef)]
+                methods = [node.name for node in owner.body if isinstance(node, ast.FunctionDef)
+                           if not any(isinstance(one, ast.Attribute) for one in node.decorator_list)]
                 stored = {node.attr for node in nodes(owner, ast.Attribute) if isinstance(node.ctx, ast.Store)}
                 self.assertEqual(len(methods), len(set(methods)))
                 self.assertFalse(stored & set(methods))

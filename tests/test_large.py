@@ -6,9 +6,12 @@ import unittest
 from helper import (SECONDS, error_of, inside, is_fair, is_ring, large_town, left_after, names_of, rows,
                     shows_a_ring, standing_of, state_after)
 from ridesonce.ahead import ahead, call_off
+from ridesonce.boards import board
+from ridesonce.bookverdicts import apart, judge_book, strike
 from ridesonce.chances import chance, mean_left, order_counts
 from ridesonce.cheapest import cheapest_mends, judge_mends
 from ridesonce.crowds import crowd_ends, crowd_town
+from ridesonce.desks import Desk
 from ridesonce.districts import District, cut_town
 from ridesonce.eitherway import either, turn
 from ridesonce.ends import ends
@@ -21,6 +24,7 @@ from ridesonce.mends import mended
 from ridesonce.notation import read_town, write_town
 from ridesonce.notes import answer_of, note_of
 from ridesonce.rings import bad_rings
+from ridesonce.rulebooks import RuleBook, let_rides
 from ridesonce.rules import EmptiestGoal, FullestStart, KeptFirst, LastBooked, Rule
 from ridesonce.runner import Runner
 from ridesonce.senders import Wise
@@ -84,7 +88,9 @@ class LargeTest(unittest.TestCase):
     def test_what_needs_a_small_town_raises_too_large(self):
         for town in self.towns:
             for call in (count_standings, LeftFamily, before_pairs, order_counts, chance, mean_left, least_crowd, ahead,
-                         call_off, van_number, Logbook, lambda town: cheapest_mends(town, {}), lambda town: judge_mends(town, {}, ("yes",))):
+                         call_off, van_number, Logbook, lambda town: judge_book(town, RuleBook("")),
+                         lambda town: strike(town, RuleBook("")), lambda town: apart(town, RuleBook(""), RuleBook("")),
+                         lambda town: cheapest_mends(town, {}), lambda town: judge_mends(town, {}, ("yes",))):
                 self.assertEqual(error_of(call, town), ("TooLarge", town.passes()))
             for made in (bad_rings(town), standings(town)):
                 self.assertEqual(error_of(list, made), ("TooLarge", town.passes()))
@@ -254,6 +260,36 @@ class LargeTest(unittest.TestCase):
         for name in border:
             many = many.close(name, 999999, 999999)
         self.assertEqual(many.answer()[0], "fair")
+
+    def test_books(self):
+        for town in self.towns:
+            first = town.stations[0][0]
+            text = "".join(f"let {name} when bikes {first} >= 0 and waits {name}\n" for name in names_of(town))
+            condition = " and ".join([f"free {first} <= 999999"] * 12)
+            for book in (RuleBook(text), RuleBook(f"let * when {condition}\n" * 40), RuleBook(text) & RuleBook("let *\n")):
+                self.assertEqual(let_rides(town, book), able(town))
+                self.assertTrue(all(book.lets(town, name) for name in names_of(town)))
+
+    def test_desks(self):
+        for town in self.towns:
+            desk = Desk.replay(write_town(town).replace("ride ", "book ").splitlines())
+            self.assertEqual(rows(desk.town), rows(town))
+            word = desk.verdict()
+            self.assertEqual(word, "sure" if every(town)[0] == "yes" else "open" if some(town)[0] == "yes" else "dead")
+            for guard in ("wise", "sure"):
+                error_of(desk.set_guard, guard)
+            for name in Wise(Rule())(town)[0]:
+                desk.go(name)
+            self.assertEqual(desk.riders, {} if word != "dead" else dict.fromkeys(names_of(town), "waiting"))
+            self.assertEqual(desk.log[len(town.stations) + 24:], [f"go {name}" for name in Wise(Rule())(town)[0]])
+            desk.set_guard("free")
+            while error_of(desk.undo) is None:
+                pass
+            self.assertEqual(rows(desk.town), ((), ()))
+
+    def test_boards(self):
+        for town in self.towns:
+            self.assertEqual([line.split()[0] for line in board(town).splitlines()], [row[0] for row in town.stations])
 
     def test_mended(self):
         for town in self.towns:

@@ -70,6 +70,7 @@ class PartTest(unittest.TestCase):
             self.assertEqual(surrounding is None, same)
             if surrounding is not None:
                 self.assertEqual([type(rest) for rest in surrounding], [list] * 3)
+                self.assertEqual(len({id(rest) for rest in surrounding}), 3)
                 self.assertEqual(sorted(row[0] for row in surrounding[0]), sorted(one.border))
                 self.assertEqual(len(surrounding), 3)
                 answers = [answer_of(placed(one, surrounding)), answer_of(placed(two, surrounding))]

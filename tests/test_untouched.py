@@ -6,6 +6,7 @@ import unittest
 from helper import (BRIM_RIDES, BRIM_STATIONS, DRY_RIDES, DRY_STATIONS, brim, dry, error_of, fair_towns, names_of,
                     random_towns, ring_towns, rows)
 from ridesonce.ahead import ahead, call_off
+from ridesonce.bookverdicts import apart, judge_book, strike
 from ridesonce.chances import chance, mean_left, order_counts
 from ridesonce.cheapest import cheapest_mends, judge_mends
 from ridesonce.crowds import crowd_ends, crowd_town
@@ -16,9 +17,11 @@ from ridesonce.every import every, judge_every
 from ridesonce.leastcrowd import least_crowd
 from ridesonce.leftover import LeftFamily
 from ridesonce.logbooks import Logbook
+from ridesonce.looks import best_look, clash
 from ridesonce.lots import dead_lots, lots
 from ridesonce.mends import mended
 from ridesonce.rings import bad_rings
+from ridesonce.rulebooks import RuleBook, let_rides
 from ridesonce.rules import KeptFirst, Rule
 from ridesonce.runner import Runner
 from ridesonce.senders import Wise
@@ -63,6 +66,13 @@ def prices_of_deeds(town):
     return {(word, station[0]): 3 for station in town.stations[::-1] for word in ("take", "bring")}
 
 
+def book_of(town):
+    """Every other rider waits for the one before."""
+    names = names_of(town)
+    lines = [f"let {name} when done {names[at - 1]}\n" if at % 2 else f"let {name}\n" for at, name in enumerate(names)]
+    return RuleBook("".join(lines))
+
+
 ANSWERS = [able, ends, empties, fulls, lots, dead_lots, Rule().choices, KeptFirst().choices,
            lambda town: list(standings(town)), lambda town: can_stand(town, names_of(town), []),
            lambda town: can_stand(town, names_of(town)[:1], []), lambda town: can_stand(town, [], unkept_of(town)),
@@ -70,14 +80,17 @@ ANSWERS = [able, ends, empties, fulls, lots, dead_lots, Rule().choices, KeptFirs
            lambda town: crowd_ends(town, {name: 2 for name in names_of(town)}), always, tight_rows, free_pairs,
            least_crowd, call_off, lambda town: cut_town(town, names_of(town)[::2])[2],
           lambda town: possible(Logbook(town), 2), lambda town: possible(Logbook(town), 4, stopped=True),
-          lambda town: [ask(Logbook(town), name, 3) for name in names_of(town)[:2]]]
+          lambda town: [ask(Logbook(town), name, 3) for name in names_of(town)[:2]],
+          lambda town: let_rides(town, RuleBook("let *\n"))]
 FAIR_ANSWERS = [every, some, sure_riders, wise_rides, lambda town: list(bad_rings(town)),
                 lambda town: [why(town, ride[0]) for ride in town.rides], worst, order_counts,
                 lambda town: list(LeftFamily(town)), Wise(Rule()).choices,
                 lambda town: [] if dead_lots(town) else before_pairs(town), ahead,
                 lambda town: cheapest_mends(town, {mend: 1 for mend in mends_of(town)}),
                 lambda town: cheapest_mends(town, {mend: 1 for mend in mends_of(town)[::2]}), van_number,
-                lambda town: van_now(town, prices_of_deeds(town))]
+                lambda town: van_now(town, prices_of_deeds(town)), lambda town: judge_book(town, book_of(town)),
+                lambda town: strike(town, RuleBook("let *\n")), lambda town: strike(town, book_of(town)),
+                lambda town: apart(town, book_of(town), RuleBook("let *\n"))]
 
 
 class AnswersTest(unittest.TestCase):
@@ -247,9 +260,10 @@ class ArgumentsTest(unittest.TestCase):
             before = (list(log), rows(town))
             for moment in (1, 2):
                 possible(log, moment)
+                best_look(log, moment)
                 for name in names_of(town)[:1]:
                     ask(log, name, moment)
-            spoil(list(log))
+            spoil([clash(log), list(log)])
             self.assertEqual((list(log), rows(log.town)), before)
 
     def test_numbers(self):
