@@ -3,13 +3,24 @@
 import unittest
 
 from helper import brim, dry, end_numbers, error_of, fair_towns, final_states, inside, is_fair, random_towns
+from ridesonce.ahead import ahead
+from ridesonce.bookverdicts import apart, judge_book, strike
+from ridesonce.chances import chance, mean_left, order_counts
+from ridesonce.cheapest import cheapest_mends, judge_mends
 from ridesonce.ends import empties, ends, first_unfair, fulls
 from ridesonce.every import every, judge_every
+from ridesonce.leftover import LeftFamily
 from ridesonce.rings import bad_rings
+from ridesonce.rulebooks import RuleBook
+from ridesonce.rules import Rule
+from ridesonce.senders import Wise
 from ridesonce.some import some, wise_rides
+from ridesonce.standings import before_pairs
 from ridesonce.steps import able, go
 from ridesonce.sure import sure_riders, why
 from ridesonce.towns import Town
+from ridesonce.van import van_now, van_number
+from ridesonce.worst import judge_worst, worst
 
 
 class EndsTest(unittest.TestCase):
@@ -75,6 +86,13 @@ class UnfairTest(unittest.TestCase):
                  lambda: why(town, "r"), lambda: why(town, "x"), lambda: some(town), lambda: wise_rides(town)]
         for call in calls:
             self.assertEqual(error_of(call), ("NotFair", "b", 3))
+        book, rule = RuleBook("let *\n"), Wise(Rule())
+        calls = [rule, rule.choices, rule.pick, before_pairs, LeftFamily, worst, order_counts, chance, mean_left, ahead, van_number,
+                 lambda town: judge_worst(town, (0, [], {})), lambda town: cheapest_mends(town, {}),
+                 lambda town: judge_mends(town, {}, ("yes", 0, [], ("price", 0), ("price", 0))), lambda town: van_now(town, {}),
+                 lambda town: judge_book(town, book), lambda town: strike(town, book), lambda town: apart(town, book, book)]
+        for call in calls:
+            self.assertEqual(error_of(call, town), ("NotFair", "b", 3))
 
 
 class FinalOrdersTest(unittest.TestCase):

@@ -286,6 +286,12 @@ class LanguageTest(unittest.TestCase):
                 caught = node.type.elts if isinstance(node.type, ast.Tuple) else [node.type]
                 self.assertLessEqual({one.id for one in caught}, own)
 
+    def test_raised_errors(self):
+        own = {node.name for node in nodes(self.trees["errors.py"], ast.ClassDef)}
+        for _, _, tree in self.each():
+            for node in nodes(tree, ast.Raise):
+                self.assertIn(node.exc.func.id, own - {"RidesError"})
+
     def test_public_functions_have_docstrings(self):
         for _, _, tree in self.each():
             self.assertIsNotNone(ast.get_docstring(tree))
